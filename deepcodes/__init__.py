@@ -1,0 +1,1 @@
+"""Deepcodes: restrictions of formulas, and what low circuits cannot tell."""

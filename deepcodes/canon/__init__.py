@@ -1,0 +1,1 @@
+"""Canonical trees of formulas, and the codes of their ways."""

@@ -1,0 +1,1 @@
+"""Letters: inputs, tables, terms and formulas."""

@@ -1,0 +1,1 @@
+"""Decision trees, and the least ones."""
