@@ -196,8 +196,7 @@ class TestDeep(support.Case):
                 self.assertEqual(right[0][0] == "tree", reference.depth(tree) < s)
                 judge = (canonical.is_deep_answer, (restriction, formula, s))
                 self.takes_just(*judge, right, [value for value in every if value not in right])
-                answer = canonical.deep_answer(restriction, formula, s)
-                self.assertEqual(answer, ("tree", tree) if right[0][0] == "tree" else ("row", min(rows_of(rows, s))))
+                self.assertIn(canonical.deep_answer(restriction, formula, s), right)
 
     def test_beginnings(self):
         for n, formula, restriction in cases(3, 5):
@@ -215,10 +214,6 @@ class TestDeep(support.Case):
         self.judges(canonical.is_deep_answer, *arguments)
         self.judges(canonical.is_deep_answer, *arguments[:2], support.number(0, 0, 10))
         self.judges(canonical.is_deep_answer, *arguments[:2], support.number(10, 0, 10))
-
-
-def rows_of(rows, s):
-    return [row for row in rows if len(row) == s]
 
 
 class TestWays(support.Case):

@@ -11,7 +11,9 @@ from deepcodes.trees import least
 CHANCE = random.Random(55)
 MOST = (0, 0, 0, 1, 0, 1, 1, 1)
 SMALL_TABLES = [table for n in range(3) for table in reference.tables(n)]
-SOME_TABLES = SMALL_TABLES + reference.tables(3)[::5] + [MOST, rows.sum_table(3), rows.sum_table(4)]
+# A letter of these leaves a low tree for one answer, and a tree as deep as the whole one for the other.
+UNEVEN = [(0, 1, 1, 1, 0, 0, 1, 0, 0, 1, 1, 1, 0, 1, 0, 0), (0, 0, 1, 0, 1, 1, 1, 0, 0, 1, 0, 0, 1, 1, 1, 0)]
+SOME_TABLES = UNEVEN + SMALL_TABLES + reference.tables(3)[::5] + [MOST, rows.sum_table(3), rows.sum_table(4)]
 RANDOM_TABLES = [tuple(CHANCE.randrange(2) for _ in range(16)) for _ in range(12)]
 
 
@@ -155,6 +157,7 @@ class TestAnswers(support.Case):
                 yield {**plan, key: plan[key][:at] + ({0: 1, 1: 0, 2: 0}[member],) + plan[key][at + 1:]}
                 yield {**plan, key: plan[key][:at] + (2 if member < 2 else 1,) + plan[key][at + 1:]}
                 yield {**plan, key: plan[key][:at] + (10 ** 10,) + plan[key][at + 1:]}
+                yield {**plan, key: plan[key][:at] + (3,) + plan[key][at + 1:]}
             yield {**plan, key: plan[key] + (0,)}
             yield {**plan, key: plan[key][1:]}
             yield {**plan, key: ()}

@@ -160,9 +160,10 @@ class TestBothWidths(support.Case):
     def test_it_ends_once_all_clauses_are_kept(self):
         """The canonical tree alone would be too deep."""
         self.assertEqual(trees.tree_or_input(1, (((0, 0),), ((0, 1),)), ()), ("tree", 1))
-        formula = (((1, 0), (2, 1)), ((0, 1), (1, 1)), ((0, 1), (1, 0)))
-        coformula = (((0, 1), (1, 0)), ((0, 1), (2, 1)))
-        self.check(3, formula, coformula)
+        for bit in (0, 1):
+            formula = (((0, bit), (2, 1)), ((0, bit), (1, 1)), ((0, bit), (1, 0)))
+            self.check(3, formula, (((0, bit),),))
+            self.check(3, formula, (((0, bit),), ((0, bit),)))
         for n in range(2, 6):
             for _ in range(60):
                 tree = reference.random_tree(CHANCE, list(range(n)), 0.3)
@@ -250,6 +251,7 @@ class TestNeat(support.Case):
                 right = [ahead for ahead, is_needless in questions if is_needless] or [None]
                 wrong = [ahead for ahead, is_needless in questions if not is_needless]
                 wrong += [literals for literals, _ in reference.ways(tree)]
+                wrong += [literals + ((0, 0),) for literals, _ in reference.ways(tree)] if n else []
                 wrong += [None] if right != [None] else []
                 self.takes_just(trees.is_needless, (n, tree), right, wrong)
                 self.assertIn(trees.needless(n, tree), right)
