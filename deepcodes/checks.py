@@ -119,6 +119,13 @@ def has_code_form(n, value):
     return all([is_triple(triple) for triple in triples])
 
 
+def is_just(value, wanted):
+    """Whether the value is the wanted one, which is built of tuples, integers and strings: True is not 1."""
+    if isinstance(wanted, tuple):
+        return is_tuple_of(value, len(wanted)) and all([is_just(part, one) for part, one in zip(value, wanted)])
+    return value == wanted if isinstance(wanted, str) else is_number(value, wanted, wanted)
+
+
 def told_by(word, value):
     """What a judged pair (word, told) tells, None for every other value."""
     if is_tuple_of(value, 2) and value[0] == word:

@@ -223,3 +223,278 @@ def led_back(formula, code):
             if end:
                 break
     return told(first, [(letter, 2) for letter in found]), tuple(taken)
+
+
+def with_free(n, many):
+    return [restriction for restriction in restrictions(n) if len(free(restriction)) == many]
+
+
+def coformula_table(n, formula):
+    return table_by(n, lambda row: coformula_value(formula, row))
+
+
+def certificate_size(table, row):
+    """The least number of letters whose bits tell the value."""
+    n = len(row)
+    for size in range(n + 1):
+        for letters in itertools.combinations(range(n), size):
+            literals = [(letter, row[letter]) for letter in letters]
+            if {value(table, other) for other in inputs(n) if keeps(other, literals)} == {value(table, row)}:
+                return size
+
+
+def least_width(table, bit):
+    """The least width of a formula, for 1, or of a coformula, for 0, that has the table."""
+    n = len(table).bit_length() - 1
+    return max([0] + [certificate_size(table, row) for row in inputs(n) if value(table, row) == bit])
+
+
+def whole_rows(restriction, formula, t, ahead=()):
+    """The beginnings of whole pieces with at least t literals, but fewer without the last piece."""
+    if len(ahead) >= t:
+        return [ahead]
+    found = []
+    for term in formula:
+        if not is_false(restriction, term):
+            letters = [letter for letter, _ in left(restriction, term)]
+            for bits in itertools.product((0, 1), repeat=len(letters)) if letters else ():
+                answers = tuple(zip(letters, bits))
+                found += whole_rows(told(restriction, answers), formula, t, ahead + answers)
+            break
+    return found
+
+
+def turn(restriction, formulas, t):
+    for index, formula in enumerate(formulas):
+        if depth(canonical(restriction, formula)) >= t:
+            return index, min(whole_rows(restriction, formula, t))
+
+
+def common_tree(restriction, formulas, t):
+    taken = turn(restriction, formulas, t)
+    return common_asking([letter for letter, _ in taken[1]], restriction, formulas, t) if taken else ()
+
+
+def common_asking(letters, restriction, formulas, t):
+    if not letters:
+        return common_tree(restriction, formulas, t)
+    sides = [common_asking(letters[1:], told(restriction, [(letters[0], bit)]), formulas, t) for bit in (0, 1)]
+    return (letters[0], *sides)
+
+
+def common_ways(tree, ahead=()):
+    if not tree:
+        return [ahead]
+    return common_ways(tree[1], ahead + ((tree[0], 0),)) + common_ways(tree[2], ahead + ((tree[0], 1),))
+
+
+def common_depth(tree):
+    return max(len(way) for way in common_ways(tree))
+
+
+def common_code(restriction, formulas, t, s):
+    rows = [way[:s] for way in common_ways(common_tree(restriction, formulas, t)) if len(way) >= s]
+    if not rows:
+        return None
+    row = min(rows)
+    here, first, turns = restriction, restriction, []
+    while row:
+        index, turn_row = turn(here, formulas, t)
+        part, row = row[:len(turn_row)], row[len(turn_row):]
+        marks = []
+        for at, asked in pieces(here, formulas[index], turn_row[:len(part)]):
+            first = told(first, asked)
+            for literal in asked:
+                place = formulas[index][at].index(literal)
+                letter, answer = part[len(marks)]
+                assert letter == literal[0] == turn_row[len(marks)][0]
+                marks.append((place, turn_row[len(marks)][1], int(literal == asked[-1]), answer))
+        here = told(here, part)
+        turns.append((index, tuple(marks)))
+    return first, tuple(turns)
+
+
+def common_back(formulas, code):
+    first, turns = code
+    here, found = first, []
+    for index, marks in turns:
+        answers, piece, term = [], [], None
+        for place, answer, end, last in marks:
+            if term is None:
+                able = [term for term in formulas[index] if not is_false(here, term)]
+                if not able:
+                    return None
+                term = able[0]
+            if place >= len(term) or first[term[place][0]] == 2 or term[place][0] in found:
+                return None
+            letter = term[place][0]
+            found.append(letter)
+            piece.append((letter, answer))
+            answers.append((letter, last))
+            if end:
+                here, piece, term = told(here, piece), [], None
+        here = told(here, answers)
+    return told(first, [(letter, 2) for letter in found])
+
+
+def sum_of(row):
+    return sum(row) % 2
+
+
+def line_values(circuit, row):
+    values = []
+    for line in circuit:
+        if line[0] == "letter":
+            values.append(int(row[line[1]] == line[2]))
+        else:
+            members = [values[at] for at in line[1]]
+            values.append(int(all(members) if line[0] == "and" else any(members)))
+    return values
+
+
+def circuit_table(n, circuit):
+    return table_by(n, lambda row: line_values(circuit, row)[-1])
+
+
+def circuit_depth(circuit, at=-1):
+    line = circuit[at]
+    if line[0] == "letter":
+        return 0
+    found = [1]
+    for member in line[1]:
+        below = circuit_depth(circuit, member)
+        found.append(below if circuit[member][0] == line[0] else below + 1)
+    return max(found)
+
+
+def pushed_lot(circuit, at):
+    line = circuit[at]
+    members = set()
+    for member in line[1]:
+        members |= pushed_lot(circuit, member) if circuit[member][0] == line[0] else {member}
+    return members
+
+
+def pushed(circuit):
+    lots = [sorted(pushed_lot(circuit, at)) if line[0] != "letter" else [] for at, line in enumerate(circuit)]
+    needed, rest = set(), [len(circuit) - 1]
+    while rest:
+        at = rest.pop()
+        needed.add(at)
+        rest += [member for member in lots[at] if member not in needed]
+    order = sorted(needed)
+    lines = []
+    for at in order:
+        word = circuit[at][0]
+        lines.append(circuit[at] if word == "letter" else (word, tuple(order.index(member) for member in lots[at])))
+    return tuple(lines)
+
+
+def random_circuit(chance, n, many, width=4):
+    """A circuit of many lines; gates look mostly at the lines just ahead, so that it can get deep."""
+    lines = []
+    for at in range(many):
+        if n and (at == 0 or chance.random() < 0.35):
+            lines.append(("letter", chance.randrange(n), chance.randrange(2)))
+        else:
+            able = range(max(0, at - 6), at) if chance.random() < 0.6 else range(at)
+            lot = sorted(chance.sample(able, min(len(able), chance.randint(0 if chance.random() < 0.1 else 1, width))))
+            lines.append((chance.choice(("and", "or")), tuple(lot)))
+    return tuple(lines)
+
+
+def layers_value(layers, row):
+    word, formulas, upper = layers
+    kind = formula_value if word == "ands" else coformula_value
+    values = [kind(formula, row) for formula in formulas]
+    is_and = word == "ands"
+    for layer in upper:
+        values = [int((all if is_and else any)(values[at] for at in lot)) for lot in layer]
+        is_and = not is_and
+    assert len(values) == 1
+    return values[0]
+
+
+def layers_table(n, layers):
+    return table_by(n, lambda row: layers_value(layers, row))
+
+
+def random_layers(chance, n, rounds, many=3, most=3):
+    sizes = [chance.randint(1, many) for _ in range(rounds - 1)] + [1]
+    formulas = tuple(random_formula(chance, n, most) for _ in range(sizes[0]))
+    upper = []
+    for below, size in zip(sizes, sizes[1:]):
+        upper.append(tuple(
+            tuple(sorted(chance.sample(range(below), chance.randint(min(1, below), below)))) for _ in range(size)
+        ))
+    return chance.choice(("ands", "ors")), formulas, tuple(upper)
+
+
+def bottom(layers, gate):
+    formula = layers[1][gate]
+    if layers[0] == "ors":
+        formula = tuple(tuple((letter, 1 - bit) for letter, bit in clause) for clause in formula)
+    return formula
+
+
+def bottoms(layers):
+    return [bottom(layers, gate) for gate in range(len(layers[1]))]
+
+
+def deep_gates(layers, restriction, s):
+    return [gate for gate, formula in enumerate(bottoms(layers)) if depth(canonical(restriction, formula)) >= s]
+
+
+def code_for(restriction, formula, s):
+    row = deep_row(restriction, formula, s)
+    return None if row is None else code(restriction, formula, row)
+
+
+def lowered(layers, restriction):
+    """The layers with a round less, whatever number of clauses they get."""
+    word, _, upper = layers
+    parts = []
+    for formula in bottoms(layers):
+        ahead = sorted(literals for literals, end in ways(canonical(restriction, formula)) if end == 0)
+        flip = 1 if word == "ands" else 0
+        parts.append([tuple(sorted((letter, bit ^ flip) for letter, bit in literals)) for literals in ahead])
+    formulas = []
+    for lot in upper[0]:
+        clauses = []
+        for clause in [clause for gate in lot for clause in parts[gate]]:
+            if clause not in clauses:
+                clauses.append(clause)
+        formulas.append(tuple(clauses))
+    return "ors" if word == "ands" else "ands", tuple(formulas), upper[1:]
+
+
+def behind_all(restriction, many):
+    """The restrictions with so many free letters that tell all of this one."""
+    return [
+        other for other in with_free(len(restriction), many)
+        if all(member in (2, told) for member, told in zip(restriction, other))
+    ]
+
+
+def swapped_ends(tree):
+    return (tree[0], swapped_ends(tree[1]), swapped_ends(tree[2])) if isinstance(tree, tuple) else 1 - tree
+
+
+def walk(n, layers, free, depths):
+    """As `walk` tells it, with the layers of the last round looked at; the charges are all right ones, as lists."""
+    here, row = (2,) * n, []
+    for many, s in zip(free, depths):
+        looked_at = behind_all(here, many)
+        good = [restriction for restriction in looked_at if not deep_gates(layers, restriction, s)]
+        if not good:
+            charges = []
+            for restriction in looked_at:
+                gates = deep_gates(layers, restriction, s)
+                charges.append([(gate, code_for(restriction, bottom(layers, gate), s)) for gate in gates])
+            return ("charged", tuple(row), charges), layers
+        here = good[0]
+        row.append(here)
+        if layers[2]:
+            layers = lowered(layers, here)
+    tree = canonical(here, bottom(layers, 0))
+    return ("tree", tuple(row), tree if layers[0] == "ands" else swapped_ends(tree)), layers

@@ -40,6 +40,21 @@ JUNK = DEEP_VALUES + [
     {DEEP_VALUES[0]: ()}, ("tree", DEEP_VALUES[0]), ("tree", DEEP_VALUES[3]), ("code", (DEEP_VALUES[0], ())),
     ("tree", SHARED_TREE), SHARED_TREE, ((0, 1), DEEP_VALUES[0]), (DEEP_VALUES[0], DEEP_VALUES[1]),
     errors.InvalidNumber(3), (errors.InvalidTable("x"),), ("input", errors.TooMany(1)),
+    ("good", None), ("good", [2]), ("good", (True,)), ("codes", None), ("codes", [()]), ("codes", (None,)),
+    ("codes", (((2,), ()), None)), ("both", None, None), ("both", (), [()]), ("both", (((10 ** 20, 1),),), ()),
+    ("terms", None), ("terms", [()]), ("terms", (None,)), ("terms", (((0, True),),)), ("terms", DEEP_VALUES[0]),
+    ((2,), ((0, ()),)), ((2,), ((0, ((0, 0, 1, 0),)),)), ((2,), ((10 ** 20, ((10 ** 20, 0, 1, 0),)),)), ((2,), (0,)),
+    (0, ((2,), ())), (0, None), (None, ((2,), ())), (10 ** 20, ((2,), ())), (0, (0, (), ()), ()), (0, (), ()),
+    (("letter", 0, 1),), (("letter", None, 1),), (("letter", 10 ** 20, 1),), (("and", ()),), (("or", None),), (("or", (0,)),),
+    (("or", [()]),), (("or", (10 ** 20,)),), (DEEP_VALUES[0], ("or", ())), ("and", ()), ("letter", 0, 1), ("ands", ((),), ()),
+    ("ors", ((),), ()), ("ands", None, ()), ("ors", ((),), None), ("ands", ((),), (None,)), ("ands", ((),), ((None,),)),
+    ("ands", ((),), (((10 ** 20,),),)), ("ands", DEEP_VALUES[0], DEEP_VALUES[0]), (["ands"], ((),), ()),
+    ("tree", (), 0), ("tree", ((2,),), 0), ("tree", None, None), ("tree", ((2,),), True), ("tree", DEEP_VALUES[0], 0),
+    ("charged", (), ()), ("charged", None, None), ("charged", (), (None,)), ("charged", (), ((0, None),)),
+    ("charged", DEEP_VALUES[0], ()), ("charged", (), DEEP_VALUES[0]), ("charged",), ("wrong", None), ("wrong", ()),
+    ("wrong", (0,)), ("wrong", [0]), ("wrong", (2,)), ("wrong", DEEP_VALUES[0]), ("deep", None), ("deep", ((), ())),
+    ("deep", ((True,), ())), ("deep", DEEP_VALUES[0]), (((2,),), (0,)), (None, None), (((2,),), None), (((2,),), [0]),
+    ("sum", None), ("sum", True), ("sum", 10 ** 30), ("sum", [1]), ("sum", (1,)), (2, 2), (10 ** 20,), (2, 10 ** 20), [2, 2],
 ]
 
 NO_NUMBERS = [
@@ -154,13 +169,58 @@ def tree(n, good):
     return Argument(good, errors.InvalidTree, wrong)
 
 
+def several(n, good):
+    """A tuple of 1 to 8 formulas."""
+    wrong = NO_TUPLES + [(), good[0] + ((),) * 9, (None,), ([],), ((), None), (good[0], 5), ((),) * 9, list(good)]
+    wrong += [(*good[:7], each) for each in formula(n, ()).wrong[-20:]]
+    return Argument(good, errors.InvalidFormula, wrong)
+
+
+def line(n, elder):
+    """Values that are no line behind so many elder ones."""
+    wrong = [None, True, 0, 10 ** 10, "", "and", (), [], {}, ["and", ()], ("and",), ("and", (), ()), ("nand", ())]
+    wrong += [("letter", n, 1), ("letter", -1, 0), ("letter", None, 0), ("letter", 10 ** 10, 0), ("letter", 0), ("ands", ())]
+    wrong += [("or", (elder,)), ("or", (-1,)), ("or", (None,)), ("or", [])  , ("or", (10 ** 10,)), ("or", None), ("or", 0)]
+    wrong += [(None, ()), ((), ()), ([], ()), ("and", ((),)), ("and", ("0",)), ("letter", (), 1), ("and", {})]
+    if n:
+        wrong += [("letter", 0, 2), ("letter", 0, True), ("letter", False, 1), ("letter", 0, None), ["letter", 0, 1]]
+        wrong += [("and", 0, 1), ("letters", 0, 1)]
+    if elder:
+        wrong += [("and", (0, 0)), ("and", (False,)), ("or", [0])]
+    if elder > 1:
+        wrong += [("or", (1, 0)), ("or", (0, True)), ("and", (0, 1, 1))]
+    return wrong
+
+
+def circuit(n, good):
+    wrong = NO_TUPLES + [(), list(good), (("and", ()),) * 121, *[(*good, each) for each in line(n, len(good))]]
+    wrong += [(each, *good) for each in line(n, 0)]
+    wrong += [(("and", ()),) * 100 + (("or", tuple(range(65))),)]
+    return Argument(good, errors.InvalidCircuit, wrong)
+
+
+def layers(n, good):
+    word, formulas, upper = good
+    wrong = NO_TUPLES + [(), list(good), good[:2], (*good, ()), ("and", formulas, upper), (None, formulas, upper)]
+    wrong += [([], formulas, upper), (word, list(formulas), upper), (word, formulas, list(upper)), (word, (), ())]
+    wrong += [(word, None, upper), (word, formulas, None), (word, ((),) * 61, (((0,),),)), (word, ((), ()), ())]
+    wrong += [(word, (each, *formulas[1:]), upper) for each in formula(n, ()).wrong[-20:]]
+    wrong += [(word, ((),), (((0,),),) * 7), (word, ((),), (((0,),) * 61, ((0,),)))]
+    wrong += [(word, ((), ()), (each,)) for each in (
+        (), None, [()], ((),) * 2, ((2,),), ((0, 0),), ((1, 0),), ([0],), ((None,),), ((False,),), ((0, True),), ((-1,),), (0,),
+        ((10 ** 10,),), 5, ("0",), {}, (("0",),),
+    )]
+    wrong += [(word, ((),), (((0,), (0,)), ((2,),))), (word, ((),), (((0,),), ((1,),)))]
+    return Argument(good, errors.InvalidCircuit, wrong)
+
+
 class Case(unittest.TestCase):
     def refuses(self, error, kept, function, *arguments):
         """Checks that the call raises just this error; one that keeps a value keeps just `kept`."""
         with self.assertRaises(errors.DeepError, msg=(function, arguments)) as caught:
             function(*arguments)
         self.assertIs(type(caught.exception), error, (function, arguments))
-        names = {errors.InvalidNumber: "given", errors.TooMany: "most"}
+        names = {errors.InvalidNumber: "given", errors.TooMany: "most", errors.Refused: "reason"}
         if error in names:
             given = getattr(caught.exception, names[error])
             self.assertIs(type(given), type(kept), (function, arguments))

@@ -96,6 +96,86 @@ raises InvalidOperation
 >>> codes_at(3, PAIR, 4, 1)
 raises InvalidNumber(4)
 """),
+    ('Stage 8: how many codes there are', "deepcodes.canon.counts", r"""
+>>> [row_number(2, 1), row_number(2, 2), row_number(3, 2), is_row(2, 2, ((1, 0, 1), (0, 1, 1))), is_row(2, 2, ((1, 0, 0), (0, 1, 1)))]
+[4, 20, 48, True, False]
+>>> ONE = (((0, 1), (1, 1)), ((1, 0), (2, 1)))
+>>> [deep_row_numbers(3, ONE, 1), deep_row_numbers(3, ONE, 2), deep_row_numbers(3, ONE, 3), share_polynomial(3, ONE, 3)]
+[(0, 7, 6, 1), (0, 0, 4, 1), (0, 0, 0, 1), (0, 0, 0, 8)]
+>>> count_paper(3, ONE, 2, 2)
+(4, 20, 8, 6)
+"""),
+    ('Stage 9: the other sort', "deepcodes.canon.switched", r"""
+>>> [colefts((0, 2, 2), ONE), switched((2, 2, 2), ONE, 3), switched((2, 0, 2), ONE, 2)[0]]
+[(((1, 1),), ((1, 0), (2, 1))), ('code', ((1, 1, 1), ((0, 0, 0), (1, 0, 1), (1, 0, 1)))), 'both']
+>>> [is_switched((2, 2, 2), ONE, 3, ("both", (((0, 1), (1, 0)), ((1, 1), (2, 1))), ONE)), is_switched((2, 2, 2), ONE, 2, ("both", (((0, 1), (1, 0)), ((1, 1), (2, 1))), ONE))]
+[True, False]
+>>> [least_widths((0, 0, 0, 1, 1, 1, 0, 1)), width_answer((0, 1, 1, 0), 1, 1)[0], width_answer((0, 1, 1, 0), 2, 0)[0], is_width_answer((0, 1, 1, 1), 0, 1, ("input", (0, 0)))]
+[(2, 2), 'input', 'terms', False]
+>>> [grades((2, 2, 2), ONE), grades(FREE, DEEP), grades(SHUT, DEEP), stiff_number(3, ONE, 2, 2), stiff_number(3, ONE, 3, 3)]
+[(2, 2, 2, 3), (3, 3, 4, 4), (3, 2, 3, 5), 2, 0]
+"""),
+    ('Stage 10: several formulas at once', "deepcodes.several.several", r"""
+>>> BOTH = (DEEP, (((0, 1),), ((2, 1), (5, 0))))
+>>> [turn_of(SHUT, BOTH, 3), turn_of(FREE, BOTH, 5), common_depth(FREE, BOTH, 2)]
+[(0, ((1, 0), (2, 0), (3, 0))), None, 4]
+>>> MARKED = common_code(FREE, BOTH, 2, 4)
+>>> [MARKED, common_back(6, BOTH, MARKED) == FREE, common_answer(FREE, BOTH, 2, 5)[0]]
+[((1, 1, 2, 2, 1, 1), ((0, ((0, 0, 0, 0), (1, 0, 1, 0))), (0, ((1, 0, 0, 0), (2, 0, 1, 0))))), True, 'tree']
+"""),
+    ('Stage 11: circuits and layers', "deepcodes.circuits.circuits", r"""
+>>> PARTS = (("letter", 0, 1), ("letter", 0, 0), ("letter", 1, 1), ("letter", 1, 0), ("and", (0, 3)), ("and", (1, 2)), ("or", (4, 5)))
+>>> [circuit_table(2, PARTS), circuit_depth(2, PARTS), not_of(2, PARTS)[6], circuit_value(2, PARTS, (1, 1)), circuit_depth(0, (("and", ()),))]
+[(0, 1, 1, 0), 2, ('and', (4, 5)), 0, 1]
+>>> pushed(2, (("letter", 0, 1), ("letter", 1, 1), ("letter", 1, 0), ("or", (0, 1)), ("or", (0, 3))))
+(('letter', 0, 1), ('letter', 1, 1), ('or', (0, 1)))
+>>> THREE = ("ands", ((((0, 1), (1, 1)), ((2, 1),)), (((0, 0),),)), (((0, 1),),))
+>>> [layers_table(3, THREE), are_layers(3, ("ors", ((),), ())), layers_value(1, ("ors", ((),), ()), (0,)), are_layers_of(2, PARTS, ("ands", ((((0, 1), (1, 0)), ((0, 0), (1, 1))),), ()))]
+[(0, 0, 0, 0, 1, 0, 1, 0), True, 1, True]
+>>> layers_of(2, ())
+raises InvalidCircuit
+"""),
+    ('Stage 12: layers led down', "deepcodes.circuits.lowered", r"""
+>>> [bottom_of(3, THREE, 1), bottom_of(1, ("ors", ((((0, 1),),),), ()), 0), told_more((2, 0), 0), charge_of(3, THREE, (2, 2, 2), 3)]
+[(((0, 0),),), (((0, 0),),), ((0, 0), (1, 0)), (0, ((1, 1, 1), ((0, 0, 0), (1, 0, 1), (0, 0, 1))))]
+>>> [lowered(3, THREE, (2, 1, 2), 3), walk(3, THREE, (2, 1), (2, 2)), gates_at_least(10, 1, 1, 1)]
+[('ors', ((((0, 1), (2, 1)), ((0, 0),)),), ()), ('tree', ((2, 0, 2), (2, 0, 0)), 0), 2]
+>>> walk(1, ("ands", ((((0, 1),),),), ()), (1,), (1,))
+('charged', (), ((0, ((1,), ((0, 0, 1),))),))
+"""),
+    ('Stage 13: wrong inputs', "deepcodes.circuits.wrong", r"""
+>>> [wrong_input((1, 0, 2), 0), is_wrong_input((2, 0, 2), (2, 0, 1), (1, 0, 0)), wrong_number((2, 0, 2), (2, 0, 1), (0, 1, 1, 0, 1, 0, 0, 1))]
+[(1, 0, 0), True, 2]
+>>> [formula_answer(FREE, DEEP)[0], formula_answer((2, 2), (((0, 1), (1, 0)), ((0, 0), (1, 1)))), formula_answer((), ())]
+['wrong', ('deep', ((1, 0), ((0, 0, 0), (1, 0, 1)))), ('deep', ((), ()))]
+>>> [unlike_by((0, 1, 1, 0), 1, {(2, 2): (0, 1), (0, 2): (), (2, 1): ()}, (0, 0, 1)) in ((0, 1), (1, 1)), is_unlike((0, 1, 1, 0), (0, 0, 1), (0, 1))]
+[True, True]
+>>> [is_refuted(3, THREE, (2, 1), (2, 2), (((2, 0, 2), (2, 0, 0)), (1, 0, 0))), len(wrong_of(2, PARTS))]
+[True, 0]
+>>> wrong_input((2,), (0, 0, 1))
+raises Refused(('deep',))
+"""),
+    ('Stage 14: formulas that tell the sum', "deepcodes.sums.leastsum", r"""
+>>> [sum_formula(2), sum_coformula(2), sum_tree(2), sum_formula(0), sum_coformula(0)]
+[(((0, 0), (1, 1)), ((0, 1), (1, 0))), (((0, 0), (1, 0)), ((0, 1), (1, 1))), (0, (1, 0, 1), (1, 1, 0)), (), ((),)]
+>>> SHORT = (((0, 1),), ((0, 0), (1, 1), (2, 0)))
+>>> [sum_answer(3, sum_formula(3)), is_sum_answer(3, SHORT, ("wrong", (1, 1, 0))), is_sum_answer(3, SHORT, ("wrong", (1, 0, 0))), wrong_number(3, SHORT)]
+[('sum', 4), True, False, 3]
+>>> [is_apart(3, SHORT), tree_answer(2, sum_tree(2)), tree_answer(2, (0, 0, 1))[0], cosum_answer(2, sum_coformula(2))]
+[True, ('sum', 4), 'wrong', ('sum', 2)]
+>>> sum_formula(8)
+raises InvalidNumber(8)
+"""),
+    ('Stage 15: circuits for the sum, by blocks', "deepcodes.sums.blocks", r"""
+>>> [members_of(10, (3, 4)), blocks_number(10, (3, 4)), blocks_number(10, (10,)), blocks_number(9, least_sizes(9, 2)), is_sizes(3, (3, 2)), is_sizes(1, ())]
+[(10, 4, 1), 59, 533, 53, False, True]
+>>> [is_least_sizes(10, 2, (3, 4)), is_least_sizes(5, 2, (2, 3)), is_least_sizes(4, 4, (2, 2, 2, 2)), is_sum_circuit(2, (2,), PARTS)]
+[True, True, False, True]
+>>> [blocks_number(6, (2, 3)), is_sum_circuit(6, (2, 3), sum_circuit(6, (2, 3))), tells_sum(2, PARTS), gates_needed(2, PARTS)]
+[35, True, True, (3, 3)]
+>>> least_sizes(4, 4)
+raises Refused(('none',))
+"""),
 )
 
 
@@ -137,9 +217,9 @@ class TestExamples(unittest.TestCase):
             self.assertEqual(list(vars(caught.exception).values()), [eval(value[:-1])])
 
     def test_counted(self):
-        self.assertEqual(len(BLOCKS), 8)
+        self.assertEqual(len(BLOCKS), 16)
         raised = [wanted for _, _, text in BLOCKS for _, wanted in steps(text) if wanted and wanted.startswith("raises")]
-        self.assertEqual(len(raised), 7)
+        self.assertEqual(len(raised), 11)
 
 
 if __name__ == "__main__":

@@ -193,7 +193,7 @@ class TestLanguage(unittest.TestCase):
             local = {node.id for node in ast.walk(tree) if isinstance(node, ast.Name)}
             for node in tree.body:
                 if isinstance(node, ast.FunctionDef):
-                    self.assertIn(node.name, reads, path)
+                    self.assertTrue(node.name in reads, (path, node.name))
                 if isinstance(node, ast.ImportFrom):
                     self.assertLessEqual({alias.name for alias in node.names}, local, path)
 

@@ -145,12 +145,17 @@ def is_canon_answer(restriction, formula, s, value):
     return is_low_tree(restriction, formula, s, told_by("tree", value))
 
 
-def codes_at(n, formula, free, s):
-    """The codes of all restrictions with so many free letters that are at least s deep, by numbers."""
+def need_looked_at(n, formula, free, s):
+    """The checks of what looks at all restrictions with so many free letters, its work limit among them."""
     need_n(n)
     need_formula(n, formula)
     need_number(free, 0, n)
     need_depth(s)
     need_work(count_with(n, free), len(formula))
+
+
+def codes_at(n, formula, free, s):
+    """The codes of all restrictions with so many free letters that are at least s deep, by numbers."""
+    need_looked_at(n, formula, free, s)
     pairs = [(restriction, deep_code(restriction, formula, s)) for restriction in restrictions_with(n, free)]
     return {restriction: code for restriction, code in pairs if code is not None}

@@ -53,6 +53,15 @@ def literal_masks(n):
     return pairs
 
 
+def sum_mask(n):
+    """The inputs at which the sum of the letters has the value 1."""
+    mask = 0
+    for letter in range(n):
+        # Those with the bit 1 at one letter more have the other sum.
+        mask |= (all_inputs(letter) ^ mask) << (1 << letter)
+    return mask
+
+
 def term_mask(n, term):
     """The inputs at which a term is true."""
     return kept_by_all(all_inputs(n), literal_masks(n), term)

@@ -8,6 +8,7 @@ from deepcodes.checks import (
 )
 from deepcodes.errors import InvalidOperation, InvalidRestriction
 from deepcodes.letters.masks import row_at, spread
+from deepcodes.powers import power
 
 MOST_PARTS = 200
 
@@ -15,14 +16,6 @@ MOST_PARTS = 200
 def is_restriction(n, value):
     need_n(n)
     return is_restriction_of(n, value)
-
-
-def how_many_restrictions(n):
-    """3 to the power of n."""
-    many = 1
-    for _ in range(n):
-        many *= 3
-    return many
 
 
 def restriction_number(restriction):
@@ -41,7 +34,7 @@ def number_of(restriction):
 def restriction_at(n, number):
     """The restriction with a number."""
     need_n(n)
-    need_number(number, 0, how_many_restrictions(n) - 1)
+    need_number(number, 0, power(3, n) - 1)
     members = []
     rest = number
     for _ in range(n):
@@ -90,6 +83,10 @@ def free_letters(restriction):
     return letters_free(restriction)
 
 
+def literals_told(restriction):
+    return [(letter, member) for letter, member in enumerate(restriction) if member != 2]
+
+
 def fitting_numbers(restriction):
     """The ascending numbers of the inputs that fit."""
     letters = letters_free(restriction)
@@ -128,6 +125,13 @@ def with_literals(restriction, literals):
     return told_too(restriction, literals)
 
 
+def all_behind(restriction, free):
+    """The list of the restrictions with so many free letters that tell all of this one, by numbers."""
+    letters = letters_free(restriction)
+    # The letters ascend, so the restrictions do if their parts behind this one do.
+    return [told_too(restriction, list(zip(letters, part))) for part in restrictions_with(len(letters), free)]
+
+
 def behind(first, second):
     """The restriction that tells what the first one tells, and what the second one tells behind it."""
     need_any_restriction(first)
@@ -136,11 +140,15 @@ def behind(first, second):
     return told_too(first, list(zip(letters, second)))
 
 
+def values_under(table, restriction):
+    return tuple([table[number] for number in fitting_numbers(restriction)])
+
+
 def table_under(table, restriction):
     """The table of the free letters under the restriction."""
     need_any_table(table)
     need_restriction(letters_of(table), restriction)
-    return tuple([table[number] for number in fitting_numbers(restriction)])
+    return values_under(table, restriction)
 
 
 def rest_behind(first, restriction):

@@ -5,6 +5,8 @@ pair of its letters and of those that it asks to be 1; that of a restriction is 
 the told letters and of those told 1.
 """
 
+from deepcodes.told.restrictions import literals_told
+
 
 def mark_of(literals):
     letters = sum([1 << letter for letter, _ in literals])
@@ -16,7 +18,7 @@ def marks_of(formula):
 
 
 def mark_of_told(restriction):
-    return mark_of([(letter, bit) for letter, bit in enumerate(restriction) if bit != 2])
+    return mark_of(literals_told(restriction))
 
 
 def letters_in(mark):
@@ -79,25 +81,34 @@ def stopped_grown(formula, coformula):
     return grown(marks_of(formula), marks_of(coformula), 0, 0, 0)
 
 
-def deep_grown(marks, start, told, ones, s):
-    """The first tuple of the first s literals along a way of the canonical tree, None if there is none."""
-    if s == 0:
+def deep_grown(marks, start, told, ones, s, whole=False):
+    """The first tuple of the first s literals along a way of the canonical tree, None if there is none.
+
+    If `whole`, the literals go on to the end of the piece that the last of them is in.
+    """
+    if s <= 0:
         return ()
     taken = first_open(marks, start, told, ones)
     if taken is None or taken[1] == 0:
         return None
-    return deep_asking(marks, taken, told, ones, s)
+    return deep_asking(marks, taken, told, ones, s, whole)
 
 
-def deep_asking(marks, taken, told, ones, s):
+def deep_asking(marks, taken, told, ones, s, whole):
     """The same behind the letters that are left of the taken term."""
     index, left = taken
-    if s == 0 or left == 0:
-        return deep_grown(marks, index, told, ones, s)
+    if left == 0 or (s == 0 and not whole):
+        return deep_grown(marks, index, told, ones, s, whole)
     letter = (left & -left).bit_length() - 1
     one = 1 << letter
     for answer in (0, 1):
-        behind = deep_asking(marks, (index, left ^ one), told | one, ones | answer << letter, s - 1)
+        behind = deep_asking(marks, (index, left ^ one), told | one, ones | answer << letter, s - 1, whole)
         if behind is not None:
             return ((letter, answer), *behind)
     return None
+
+
+def is_deep_under(marks, restriction, s):
+    """Whether the canonical tree under the restriction is at least s deep."""
+    told, ones = mark_of_told(restriction)
+    return deep_grown(marks, 0, told, ones, s) is not None

@@ -92,8 +92,12 @@ def ways(n, tree):
 
 
 def ways_to(tree, wanted):
-    """The literals of the ways with this end, each way's ascending."""
-    found = [tuple(sorted(literals)) for literals, end in ways_behind(tree, ()) if end == wanted]
+    """The list of the literals of the ways with this end, each way's ascending."""
+    return [tuple(sorted(literals)) for literals, end in ways_behind(tree, ()) if end == wanted]
+
+
+def few_ways_to(tree, wanted):
+    found = ways_to(tree, wanted)
     if len(found) > MOST_WAYS:
         raise TooMany(MOST_WAYS)
     return found
@@ -103,14 +107,14 @@ def formula_of(n, tree):
     """The formula of the ways with the end 1."""
     need_n(n)
     need_tree(n, tree)
-    return tuple(ways_to(tree, 1))
+    return tuple(few_ways_to(tree, 1))
 
 
 def coformula_of(n, tree):
     """The coformula of the ways with the end 0."""
     need_n(n)
     need_tree(n, tree)
-    return tuple([other_bits(literals) for literals in ways_to(tree, 0)])
+    return tuple([other_bits(literals) for literals in few_ways_to(tree, 0)])
 
 
 def need_two_formulas(n, formula, coformula):

@@ -1,0 +1,1 @@
+"""Circuits, layers, and how layers are led down to trees."""

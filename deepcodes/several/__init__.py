@@ -1,0 +1,1 @@
+"""Several formulas at once: common trees and their codes."""

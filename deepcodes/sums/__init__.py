@@ -1,0 +1,1 @@
+"""What tells the sum of all letters."""
