@@ -45,8 +45,9 @@ JUNK = DEEP_VALUES + [
     ("terms", None), ("terms", [()]), ("terms", (None,)), ("terms", (((0, True),),)), ("terms", DEEP_VALUES[0]),
     ((2,), ((0, ()),)), ((2,), ((0, ((0, 0, 1, 0),)),)), ((2,), ((10 ** 20, ((10 ** 20, 0, 1, 0),)),)), ((2,), (0,)),
     (0, ((2,), ())), (0, None), (None, ((2,), ())), (10 ** 20, ((2,), ())), (0, (0, (), ()), ()), (0, (), ()),
-    (("letter", 0, 1),), (("letter", None, 1),), (("letter", 10 ** 20, 1),), (("and", ()),), (("or", None),), (("or", (0,)),),
-    (("or", [()]),), (("or", (10 ** 20,)),), (DEEP_VALUES[0], ("or", ())), ("and", ()), ("letter", 0, 1), ("ands", ((),), ()),
+    (("letter", 0, 1),), (("letter", None, 1),), (("letter", 10 ** 20, 1),), (("and", ()),), (("or", None),),
+    (("or", (0,)),), (("or", [()]),), (("or", (10 ** 20,)),), (DEEP_VALUES[0], ("or", ())), ("and", ()),
+    ("letter", 0, 1), ("ands", ((),), ()),
     ("ors", ((),), ()), ("ands", None, ()), ("ors", ((),), None), ("ands", ((),), (None,)), ("ands", ((),), ((None,),)),
     ("ands", ((),), (((10 ** 20,),),)), ("ands", DEEP_VALUES[0], DEEP_VALUES[0]), (["ands"], ((),), ()),
     ("tree", (), 0), ("tree", ((2,),), 0), ("tree", None, None), ("tree", ((2,),), True), ("tree", DEEP_VALUES[0], 0),
@@ -54,7 +55,8 @@ JUNK = DEEP_VALUES + [
     ("charged", DEEP_VALUES[0], ()), ("charged", (), DEEP_VALUES[0]), ("charged",), ("wrong", None), ("wrong", ()),
     ("wrong", (0,)), ("wrong", [0]), ("wrong", (2,)), ("wrong", DEEP_VALUES[0]), ("deep", None), ("deep", ((), ())),
     ("deep", ((True,), ())), ("deep", DEEP_VALUES[0]), (((2,),), (0,)), (None, None), (((2,),), None), (((2,),), [0]),
-    ("sum", None), ("sum", True), ("sum", 10 ** 30), ("sum", [1]), ("sum", (1,)), (2, 2), (10 ** 20,), (2, 10 ** 20), [2, 2],
+    ("sum", None), ("sum", True), ("sum", 10 ** 30), ("sum", [1]), ("sum", (1,)), (2, 2), (10 ** 20,), (2, 10 ** 20),
+    [2, 2],
 ]
 
 NO_NUMBERS = [
@@ -179,8 +181,10 @@ def several(n, good):
 def line(n, elder):
     """Values that are no line behind so many elder ones."""
     wrong = [None, True, 0, 10 ** 10, "", "and", (), [], {}, ["and", ()], ("and",), ("and", (), ()), ("nand", ())]
-    wrong += [("letter", n, 1), ("letter", -1, 0), ("letter", None, 0), ("letter", 10 ** 10, 0), ("letter", 0), ("ands", ())]
-    wrong += [("or", (elder,)), ("or", (-1,)), ("or", (None,)), ("or", [])  , ("or", (10 ** 10,)), ("or", None), ("or", 0)]
+    wrong += [("letter", n, 1), ("letter", -1, 0), ("letter", None, 0), ("letter", 10 ** 10, 0), ("letter", 0)]
+    wrong += [("ands", ())]
+    wrong += [("or", (elder,)), ("or", (-1,)), ("or", (None,)), ("or", []), ("or", (10 ** 10,)), ("or", None)]
+    wrong += [("or", 0)]
     wrong += [(None, ()), ((), ()), ([], ()), ("and", ((),)), ("and", ("0",)), ("letter", (), 1), ("and", {})]
     if n:
         wrong += [("letter", 0, 2), ("letter", 0, True), ("letter", False, 1), ("letter", 0, None), ["letter", 0, 1]]
@@ -207,7 +211,8 @@ def layers(n, good):
     wrong += [(word, (each, *formulas[1:]), upper) for each in formula(n, ()).wrong[-20:]]
     wrong += [(word, ((),), (((0,),),) * 7), (word, ((),), (((0,),) * 61, ((0,),)))]
     wrong += [(word, ((), ()), (each,)) for each in (
-        (), None, [()], ((),) * 2, ((2,),), ((0, 0),), ((1, 0),), ([0],), ((None,),), ((False,),), ((0, True),), ((-1,),), (0,),
+        (), None, [()], ((),) * 2, ((2,),), ((0, 0),), ((1, 0),), ([0],), ((None,),), ((False,),), ((0, True),),
+        ((-1,),), (0,),
         ((10 ** 10,),), 5, ("0",), {}, (("0",),),
     )]
     wrong += [(word, ((),), (((0,), (0,)), ((2,),))), (word, ((),), (((0,),), ((1,),)))]

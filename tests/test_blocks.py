@@ -10,7 +10,8 @@ from deepcodes.sums import blocks, leastsum
 
 CHANCE = random.Random(1515)
 PARTS = (
-    ("letter", 0, 1), ("letter", 0, 0), ("letter", 1, 1), ("letter", 1, 0), ("and", (0, 3)), ("and", (1, 2)), ("or", (4, 5)),
+    ("letter", 0, 1), ("letter", 0, 0), ("letter", 1, 1), ("letter", 1, 0), ("and", (0, 3)), ("and", (1, 2)),
+    ("or", (4, 5)),
 )
 LETTERS = support.number(10, 1, 10)
 
@@ -50,8 +51,10 @@ def fitting(n, levels=None):
 
 
 def wrong_sizes(n):
-    wrong = support.NO_TUPLES + [(1,), (11,), (0,), (-1,), (None,), ("2",), ([],), (2, True), ((2,),), (10 ** 10,), [2, 2]]
+    wrong = support.NO_TUPLES + [(1,), (11,), (0,), (-1,), (None,), ("2",), ([],), (2, True), ((2,),), (10 ** 10,),
+        [2, 2]]
     wrong += [sizes for sizes in all_sizes() if not do_fit(n, sizes)][:40] + [(2, 2, 2, 2, 2), (10,) * 5]
+    wrong += [(1, 10), (10, 1), (1, 3, 4), (3, 1, 4), (11, 2), (0, 10)]
     return wrong
 
 
@@ -77,7 +80,8 @@ class TestSizes(support.Case):
 
     def test_constants(self):
         self.assertEqual(blocks.MOST_SIZE, 10)
-        self.takes_just(blocks.is_sizes, (10,), [(10,), (2, 5), (9, 2), (2, 2, 2, 2)], [(11,), (2, 2, 2), (10, 2), (2,) * 5])
+        self.takes_just(blocks.is_sizes, (10,), [(10,), (2, 5), (9, 2), (2, 2, 2, 2)],
+            [(11,), (2, 2, 2), (10, 2), (2,) * 5])
         self.takes_just(blocks.is_sizes, (2,), [(2,), (10,)], [(), (1,), (2, 2)])
 
     def test_arguments(self):
@@ -113,7 +117,8 @@ class TestCircuits(support.Case):
                 self.assertIs(blocks.tells_sum(n, circuit), True)
 
     def test_plainly_evaluated(self):
-        for n, sizes in ((1, ()), (2, (2,)), (3, (2, 2)), (4, (2, 2)), (5, (4, 2)), (5, (2, 2, 2)), (6, (2, 3)), (7, (3, 3))):
+        for n, sizes in ((1, ()), (2, (2,)), (3, (2, 2)), (4, (2, 2)), (5, (4, 2)), (5, (2, 2, 2)), (6, (2, 3)),
+            (7, (3, 3))):
             circuit = blocks.sum_circuit(n, sizes)
             self.assertEqual(reference.circuit_table(n, circuit), reference.table_by(n, reference.sum_of))
             self.assertEqual(reference.circuit_depth(circuit), len(sizes) + 1 if n > 1 else 0)
@@ -186,10 +191,12 @@ class TestGates(support.Case):
         self.assertEqual(blocks.gates_needed(2, cosum), (3, 3))
 
     def test_refused(self):
-        for n, circuit in ((2, PARTS[:6]), (3, PARTS), (1, (("letter", 0, 0),)), (2, circuits.not_of(2, PARTS)), (2, (("or", ()),))):
+        for n, circuit in ((2, PARTS[:6]), (3, PARTS), (1, (("letter", 0, 0),)), (2, circuits.not_of(2, PARTS)),
+            (2, (("or", ()),))):
             self.refuses(errors.Refused, ("sum",), blocks.gates_needed, n, circuit)
         for n, circuit in (
-            (1, (("letter", 0, 1),)), (1, (("letter", 0, 1), ("or", (0,)))), (1, (("letter", 0, 1), ("and", (0,)), ("or", (1,)))),
+            (1, (("letter", 0, 1),)), (1, (("letter", 0, 1), ("or", (0,)))),
+            (1, (("letter", 0, 1), ("and", (0,)), ("or", (1,)))),
             (2, PARTS + (("and", (6,)),)), (4, blocks.sum_circuit(4, (2, 2))),
         ):
             self.refuses(errors.Refused, ("depth",), blocks.gates_needed, n, circuit)

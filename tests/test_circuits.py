@@ -10,10 +10,12 @@ from deepcodes.letters import masks
 
 CHANCE = random.Random(1111)
 PARTS = (
-    ("letter", 0, 1), ("letter", 0, 0), ("letter", 1, 1), ("letter", 1, 0), ("and", (0, 3)), ("and", (1, 2)), ("or", (4, 5)),
+    ("letter", 0, 1), ("letter", 0, 0), ("letter", 1, 1), ("letter", 1, 0), ("and", (0, 3)), ("and", (1, 2)),
+    ("or", (4, 5)),
 )
 THREE = ("ands", ((((0, 1), (1, 1)), ((2, 1),)), (((0, 0),),)), (((0, 1),),))
-EMPTY = [(("and", ()),), (("or", ()),), (("and", ()), ("or", (0,))), (("or", ()), ("or", (0,))), (("or", ()), ("and", (0,)))]
+EMPTY = [(("and", ()),), (("or", ()),), (("and", ()), ("or", (0,))), (("or", ()), ("or", (0,))),
+    (("or", ()), ("and", (0,)))]
 
 
 def some_circuits(most=4, many=60):
@@ -56,7 +58,8 @@ class TestForms(support.Case):
             self.takes_just(circuits.is_circuit, (n,), [good], support.circuit(n, good).wrong)
 
     def test_most_lines(self):
-        self.assertEqual([circuits.MOST_LINES, circuits.MOST_LOT, circuits.MOST_GATES, circuits.MOST_LAYERS], [120, 64, 60, 6])
+        self.assertEqual([circuits.MOST_LINES, circuits.MOST_LOT, circuits.MOST_GATES, circuits.MOST_LAYERS],
+            [120, 64, 60, 6])
         for many, wanted in ((120, True), (121, False)):
             self.assertIs(circuits.is_circuit(0, (("and", ()),) * many), wanted)
         for many, wanted in ((64, True), (65, False)):
@@ -233,12 +236,14 @@ class TestThereAndBack(support.Case):
                 self.assertIs(circuits.are_layers_of(n, circuit, layers), wanted)
 
     def test_wrong_values(self):
-        right = [("ands", ((((0, 1), (1, 0)), ((0, 0), (1, 1))),), ()), ("ors", ((((0, 1), (1, 1)), ((0, 0), (1, 0))),), ())]
+        right = [("ands", ((((0, 1), (1, 0)), ((0, 0), (1, 1))),), ()),
+            ("ors", ((((0, 1), (1, 1)), ((0, 0), (1, 0))),), ())]
         one_more = ("ands", right[0][1], (((0,),),))
         wrong = [one_more, ("ors", right[0][1], ()), ("ands", ((),), ()), PARTS, ("ands", right[0][1] * 2, ())]
         self.takes_just(circuits.are_layers_of, (2, PARTS), right, wrong)
         for circuit in ((("letter", 0, 1),), (("letter", 0, 1), ("and", (0,)))):
-            wrong = [("ands", ((((0, 1),),),), (((0,),),)), ("ands", ((((0, 0),),),), ()), ("ands", ((((1, 1),),),), ())]
+            wrong = [("ands", ((((0, 1),),),), (((0,),),)), ("ands", ((((0, 0),),),), ()),
+                ("ands", ((((1, 1),),),), ())]
             right = [("ands", ((((0, 1),),),), ()), ("ors", ((((0, 1),),),), ())]
             self.takes_just(circuits.are_layers_of, (1, circuit), right, wrong)
 
@@ -294,11 +299,23 @@ class TestThereAndBack(support.Case):
 
     def test_many_lines(self):
         """Layers of few unlike terms make few lines; of many, too many."""
-        terms = [tuple(zip(letters, bits)) for letters in itertools.combinations(range(10), 2) for bits in ((0, 0), (0, 1), (1, 0))]
+        pairs, bit_pairs = itertools.combinations(range(10), 2), ((0, 0), (0, 1), (1, 0))
+        terms = [tuple(zip(letters, bits)) for letters in pairs for bits in bit_pairs]
         formulas = tuple(tuple(terms[at:at + 2]) for at in range(60))
         self.refuses(errors.TooMany, 120, circuits.circuit_of, 10, ("ands", formulas, ((tuple(range(60)),),)))
         same = ("ands", (tuple(terms[:64]),) * 60, ((tuple(range(60)),) * 60, (tuple(range(60)),)))
         self.assertIs(circuits.is_circuit_of(10, same, circuits.circuit_of(10, same)), True)
+        # 20 letters, 97 terms of two literals, two formulas and the gate over them are 120 lines, each made once.
+        ones = tuple(((letter, 1),) for letter in range(2))
+        for many, wanted in ((97, 120), (98, None)):
+            lots = (ones + tuple(terms[:49]), tuple(terms[49:many]) + ones[:1])
+            layers = ("ands", lots, (((0, 1),),))
+            if wanted:
+                circuit = circuits.circuit_of(10, layers)
+                self.assertEqual(len(circuit), wanted)
+                self.assertIs(circuits.is_circuit_of(10, layers, circuit), True)
+            else:
+                self.refuses(errors.TooMany, 120, circuits.circuit_of, 10, layers)
         some = ("ors", (tuple(terms[:64]),), ())
         self.assertLessEqual(len(circuits.circuit_of(10, some)), 20 + 64 + 1)
         unused = ("ands", formulas, (((0,), tuple(range(60))), ((0,),)))

@@ -144,7 +144,8 @@ class TestDeep(support.Case):
                     behind = told_number(n, free - s)
                     self.assertGreaterEqual(counts.row_number(reference.width(formula), s) * behind, len(looked_at))
                 else:
-                    wrong += [("codes", tuple(code for code in codes_of if code is not None)), ("codes", tuple(codes_of))]
+                    wrong += [("codes", tuple(code for code in codes_of if code is not None)),
+                        ("codes", tuple(codes_of))]
                 answer = counts.good_or_codes(n, formula, free, s)
                 self.assertIn(answer, right)
                 if n < 3 or free > 1:

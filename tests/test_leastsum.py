@@ -234,7 +234,8 @@ class TestNotTrue(support.Case):
     def test_right_at_odd_inputs(self):
         formula = ((),)
         wrong = [row for row in reference.inputs(3) if row not in odd_rows(3)]
-        self.takes_just(leastsum.is_sum_answer, (3, formula), [("wrong", row) for row in wrong], [("sum", 4), ("sum", 1)])
+        self.takes_just(leastsum.is_sum_answer, (3, formula), [("wrong", row) for row in wrong],
+            [("sum", 4), ("sum", 1)])
 
     def test_apart_and_mostly_right(self):
         formula = leastsum.sum_formula(3)[1:]

@@ -30,7 +30,8 @@ def some_layers(most=3, many=25, rounds=4):
 def numbers(good, n, rounds):
     """The argument `free` of walks."""
     wrong = support.NO_TUPLES + list(support.disguised(good)) + [good[:-1], (*good, 0), list(good), (n + 1, *good[1:])]
-    wrong += [(*good[:-1], -1), (*good[:-1], None), (*good[:-1], "0"), (10 ** 10,) * rounds, (-1,) * rounds, ((),) * rounds]
+    wrong += [(*good[:-1], -1), (*good[:-1], None), (*good[:-1], "0"), (10 ** 10,) * rounds, (-1,) * rounds,
+        ((),) * rounds]
     wrong += [(0, 1) + good[2:]] if rounds > 1 else []
     wrong += [good[:-2] + (good[-2], good[-2] + 1)] if rounds > 1 else []
     return support.Argument(good, errors.InvalidOperation, wrong)
@@ -38,7 +39,8 @@ def numbers(good, n, rounds):
 
 def depth_numbers(good):
     wrong = support.NO_TUPLES + list(support.disguised(good)) + [good[:-1], (*good, 1), list(good)]
-    wrong += [(*good[:-1], each) for each in (0, -1, 11, None, "1", 10 ** 10, True, (1,))] + [(0, *good[1:]), (11, *good[1:])]
+    wrong += [(*good[:-1], each) for each in (0, -1, 11, None, "1", 10 ** 10, True, (1,))]
+    wrong += [(0, *good[1:]), (11, *good[1:])]
     return support.Argument(good, errors.InvalidOperation, wrong)
 
 
@@ -73,7 +75,8 @@ class TestBottoms(support.Case):
     def test_just_the_code(self):
         along = codes.code_along((2, 2, 2), PAIR, ((0, 1), (1, 1)))
         right = [(0, codes.code_of((2, 2, 2), PAIR, 2))]
-        self.takes_just(lowered.is_charge, (3, ("ands", (PAIR,), ()), (2, 2, 2), 2), right, [(0, along), (1, right[0][1])])
+        self.takes_just(lowered.is_charge, (3, ("ands", (PAIR,), ()), (2, 2, 2), 2), right,
+            [(0, along), (1, right[0][1])])
 
     def test_arguments(self):
         for n, layers, restriction in ((3, THREE, (2, 0, 2)), (0, ("ors", ((),), ()), ()), (3, ONE_ROUND, (2, 2, 2))):
@@ -168,7 +171,8 @@ class TestLowered(support.Case):
         self.refuses(errors.Refused, ("deep", 1), lowered.lowered, 1, layers, (2,), 1)
 
     def test_arguments(self):
-        arguments = (support.letters(3), support.layers(3, THREE), support.restriction((2, 1, 2)), support.number(3, 0, 10))
+        arguments = (support.letters(3), support.layers(3, THREE), support.restriction((2, 1, 2)),
+            support.number(3, 0, 10))
         self.checks(lowered.lowered, *arguments)
         self.refuses(errors.InvalidNumber, 11, lowered.lowered, 3, ONE_ROUND, (2, 2, 2), 11)
         self.refuses(errors.InvalidRestriction, None, lowered.lowered, 3, ONE_ROUND, (2, 2), 11)
@@ -194,8 +198,9 @@ class TestWalks(support.Case):
             judge = (lowered.is_walk, (n, layers, free, depths))
             if word == "tree":
                 self.assertEqual(found, (word, row, end))
-                self.takes_just(*judge, [found], [("charged", row, ()), (word, row[:-1], end), (word, row, 1 - (end == 1))] if
-                                end in (0, 1) else [(word, row, 0), (word, row + row[-1:], end)])
+                others = [("charged", row, ()), (word, row[:-1], end), (word, (*row, row[-1]), end)]
+                others += [(word, row, other) for other in (0, 1, (0, 0, 1), (0, 1, 0)) if other != end]
+                self.takes_just(*judge, [found], others)
                 self.check_tree(n, layers, row[-1], end, depths[-1])
             else:
                 self.check_charges(judge, found, row, end, last)
@@ -219,14 +224,31 @@ class TestWalks(support.Case):
             self.assertLessEqual(math.comb(l, m) * 2 ** (l - m), gates * codes_of_a_gate)
             self.assertGreaterEqual(gates, lowered.gates_at_least(l, m, s, most))
         others = tuple(CHANCE.choice(right) for right in every)
-        wrong = [("tree", row, 0), ("charged", row, charges[:-1]), ("charged", row, charges * 2), ("charged", row, None)]
+        wrong = [("tree", row, 0), ("charged", row, charges[:-1]), ("charged", row, charges * 2),
+            ("charged", row, None)]
         wrong += [("charged", row + ((2,) * n,), charges), ("charged", row, (*charges[:-1], None))]
         wrong += [("charged", row, charges[::-1])] if len(charges) > 1 else []
+        wrong += [("charge", row, charges), ("tree", row, charges), (row, "charged", charges),
+            ("charged", charges, row)]
         if len(charges) < 9:
             self.takes_just(*judge, [found, ("charged", row, others)], wrong)
         else:
             self.assertEqual([judge[0](*judge[1], value) for value in (found, ("charged", row, others))], [True, True])
             self.assertFalse([value for value in wrong if judge[0](*judge[1], value)])
+
+    def test_charged_late(self):
+        """Each round looks at what is behind the restriction that was taken last."""
+        chance = random.Random(77)
+        found = 0
+        while found < 25:
+            layers = reference.random_layers(chance, 4, 3)
+            free, depths = (chance.choice((3, 4)), 2, chance.choice((1, 2))), (4, chance.choice((2, 3)), 1)
+            (word, row, every), last = reference.walk(4, layers, free, depths)
+            if word == "charged" and len(row) == 2 and row[0] != row[1]:
+                found += 1
+                answer = lowered.walk(4, layers, free, depths)
+                self.assertEqual(answer[:2], (word, row))
+                self.check_charges((lowered.is_walk, (4, layers, free, depths)), answer, row, every, last)
 
     def test_no_letters(self):
         for word, formula, end in (("ands", (), 0), ("ands", ((),), 1), ("ors", (), 1), ("ors", ((),), 0)):
@@ -240,7 +262,8 @@ class TestWalks(support.Case):
         found = lowered.walk(3, layers, (2, 1), (2, 1))
         self.assertEqual(found[:2], ("tree", ((2, 0, 2), (2, 0, 0))))
         self.assertIsNone(lowered.charge_of(3, layers, (2, 1, 2), 2))
-        wrong = [("tree", ((2, 1, 2), (2, 1, 0)), 0), ("tree", ((2, 0, 2), (0, 0, 2)), 0), ("tree", ((2, 0, 2), (2, 0, 0)), 1)]
+        wrong = [("tree", ((2, 1, 2), (2, 1, 0)), 0), ("tree", ((2, 0, 2), (0, 0, 2)), 0),
+            ("tree", ((2, 0, 2), (2, 0, 0)), 1)]
         self.takes_just(lowered.is_walk, (3, layers, (2, 1), (2, 1)), [found], wrong)
         good_ones = [r for r in lowered.told_more((2, 2, 2), 2) if lowered.charge_of(3, layers, r, 2) is None]
         ends = set()
@@ -251,7 +274,8 @@ class TestWalks(support.Case):
 
     def test_great_ones(self):
         chance = random.Random(5)
-        for word, free, depths in (("ands", (6, 3), (3, 3)), ("ors", (6, 2), (4, 2)), ("ands", (8, 2), (3, 3)), ("ors", (3, 1), (2, 2))):
+        for word, free, depths in (("ands", (6, 3), (3, 3)), ("ors", (6, 2), (4, 2)), ("ands", (8, 2), (3, 3)),
+            ("ors", (3, 1), (2, 2))):
             formulas = tuple(tuple(reference.random_term(chance, 10, 2) for _ in range(2)) for _ in range(2))
             layers = (word, formulas[:1] if free[0] == 3 else formulas, (((0,),),) if free[0] == 3 else (((0, 1),),))
             found = lowered.walk(10, layers, free, depths)
@@ -259,9 +283,11 @@ class TestWalks(support.Case):
 
     def test_arguments(self):
         for n, layers, free, depths in (
-            (3, THREE, (2, 1), (2, 2)), (3, ONE_ROUND, (2,), (1,)), (0, ("ors", ((),), ()), (0,), (1,)), (3, THREE, (3, 3), (1, 1)),
+            (3, THREE, (2, 1), (2, 2)), (3, ONE_ROUND, (2,), (1,)), (0, ("ors", ((),), ()), (0,), (1,)),
+            (3, THREE, (3, 3), (1, 1)),
         ):
-            arguments = (support.letters(n), support.layers(n, layers), numbers(free, n, len(free)), depth_numbers(depths))
+            arguments = (support.letters(n), support.layers(n, layers), numbers(free, n, len(free)),
+                depth_numbers(depths))
             self.checks(lowered.walk, *arguments)
             self.judges(lowered.is_walk, *arguments)
 
@@ -306,7 +332,8 @@ class TestCounted(support.Case):
                     call[at] = wrong
                     self.refuses(errors.InvalidNumber, wrong, lowered.gates_at_least, *call)
         for call, wrong in (
-            ((3, 4, 5, 0), 4), ((4, 4, 5, 0), 5), ((4, 4, 4, 0), 0), ((0, 0, 0, 0), 0), ((3, 4, 1, 1), 4), ((4, 2, 3, 1), 3),
+            ((3, 4, 5, 0), 4), ((4, 4, 5, 0), 5), ((4, 4, 4, 0), 0), ((0, 0, 0, 0), 0), ((3, 4, 1, 1), 4),
+            ((4, 2, 3, 1), 3),
             ((3, 4, 11, 0), 11), ((3, 4, 5, -1), -1), ((3, 4, None, 11), None), ((11, 12, 13, 14), 11),
         ):
             self.refuses(errors.InvalidNumber, wrong, lowered.gates_at_least, *call)

@@ -39,10 +39,13 @@ def code_argument(formulas, good):
     ]
     some = (0, ((0, 0, 1, 0),))
     for turn in (
-        None, 0, (), (0,), (0, ()), (0, None), [0, ((0, 0, 1, 0),)], (0, [(0, 0, 1, 0)]), (0, ((0, 0, 0, 0),)), (-1, some[1]),
-        (len(formulas), some[1]), (None, some[1]), (True, some[1]), (10 ** 10, some[1]), (0, some[1], ()), ((), some[1]),
+        None, 0, (), (0,), (0, ()), (0, None), [0, ((0, 0, 1, 0),)], (0, [(0, 0, 1, 0)]), (0, ((0, 0, 0, 0),)),
+        (-1, some[1]),
+        (len(formulas), some[1]), (None, some[1]), (True, some[1]), (10 ** 10, some[1]), (0, some[1], ()),
+        ((), some[1]),
         (0, (0, 0, 1, 0)), (0, ((0, 0, 1),)), (0, ((0, 0, 1, 0, 0),)), (0, ((10, 0, 1, 0),)), (0, ((-1, 0, 1, 0),)),
-        (0, ((True, 0, 1, 0),)), (0, ((0, 2, 1, 0),)), (0, ((0, 0, 2, 0),)), (0, ((0, 0, 1, 2),)), (0, ((0, 0, 1, None),)),
+        (0, ((True, 0, 1, 0),)), (0, ((0, 2, 1, 0),)), (0, ((0, 0, 2, 0),)), (0, ((0, 0, 1, 2),)),
+        (0, ((0, 0, 1, None),)),
         (0, ((0, False, 1, 0),)), (0, ((0, 0, True, 0),)), (0, ((0, 0, 1, True),)), (0, ([0, 0, 1, 0],)), (0, (None,)),
         (0, ((10 ** 10, 0, 1, 0),)), (0, ((0, 0, 1, 0),) * 11), (0, ((0, 0, 1, 0), (0, 0, 0, 0))),
     ):
@@ -80,7 +83,8 @@ class TestTurns(support.Case):
 
     def test_arguments(self):
         self.checks(several.turn_of, *COMMON)
-        self.checks(several.turn_of, support.any_restriction(()), support.several(0, ((), ((),))), support.number(10, 1, 10))
+        self.checks(several.turn_of, support.any_restriction(()), support.several(0, ((), ((),))),
+            support.number(10, 1, 10))
         eight = support.several(3, TWO * 4)
         self.checks(several.turn_of, support.any_restriction((2, 2, 2)), eight, support.number(2, 1, 10))
         self.assertEqual(several.MOST_FORMULAS, 8)
@@ -132,8 +136,10 @@ class TestTrees(support.Case):
             several.common_tree((2, 2, 2), formulas, 1), (2, (0, (), (1, (), ())), (1, (0, (), ()), (0, (), ()))),
             (1, (2, (), ()), (0, (2, (), ()), (2, (), ()))),
         ]
-        wrong = [(), 0, None, (0, (), ()), (2, 0, 0), (2, (0, 0, 0), (0, (), ())), (2, (0, (), (1, (), ())), (1, (), ()))]
-        wrong += [(2, (0, (), (0, (), ())), (1, (0, (), ()), (0, (), ()))), (2, (2, (), ()), ()), (3, (), ()), (-1, (), ())]
+        wrong = [(), 0, None, (0, (), ()), (2, 0, 0), (2, (0, 0, 0), (0, (), ())),
+            (2, (0, (), (1, (), ())), (1, (), ()))]
+        wrong += [(2, (0, (), (0, (), ())), (1, (0, (), ()), (0, (), ()))), (2, (2, (), ()), ()), (3, (), ()),
+            (-1, (), ())]
         wrong += [(0, (1, (2, (), ()), (2, (), ())), (1, (2, (), ()), (2, (), ())), ())]
         self.takes_just(several.is_common_tree, ((2, 2, 2), formulas, 1), right, wrong)
         self.takes_just(several.is_common_tree, ((0, 2, 2), formulas, 1), [(2, (), ())], right + [(), (0, (), ())])
@@ -201,7 +207,8 @@ class TestCodes(support.Case):
                         self.assertEqual(several.common_back(n, formulas, code), back)
                         for s in range(3):
                             wanted = code in right[s]
-                            self.assertIs(several.is_common_code(n, formulas, t, s, code), wanted, (formulas, t, s, code))
+                            self.assertIs(several.is_common_code(n, formulas, t, s, code), wanted,
+                                (formulas, t, s, code))
 
     def pairs(self, n, many):
         marks = list(itertools.product((0, 1), (0, 1), (0, 1), (0, 1)))
@@ -215,7 +222,8 @@ class TestCodes(support.Case):
         """Codes with parts of others mostly lead nowhere, or are no codes."""
         for formulas in [TWO] + [random_several(4, 2) for _ in range(12)]:
             n = 3 if formulas == TWO else 4
-            codes = [several.common_code(r, formulas, t, s) for r in reference.restrictions(n) for t in (1, 2) for s in (2, 3)]
+            calls = itertools.product(reference.restrictions(n), [formulas], (1, 2), (2, 3))
+            codes = [several.common_code(*call) for call in calls]
             codes = sorted({code for code in codes if code is not None})
             for _ in range(150 if codes else 0):
                 first, turns = CHANCE.choice(codes)
@@ -231,7 +239,8 @@ class TestCodes(support.Case):
     def test_none(self):
         mark = (0, 0, 1, 0)
         for code in (
-            ((2, 0, 0), ((0, (mark,)),)), ((1, 0, 0), ((0, ((5, 0, 1, 0),)),)), ((1, 0, 0), ((0, (mark,)), (0, (mark,)))),
+            ((2, 0, 0), ((0, (mark,)),)), ((1, 0, 0), ((0, ((5, 0, 1, 0),)),)),
+            ((1, 0, 0), ((0, (mark,)), (0, (mark,)))),
             ((0, 0, 1), ((0, (mark,)),)), ((1, 0, 0), ((0, ((0, 0, 0, 0), (0, 0, 1, 0))),)),
         ):
             self.assertIsNone(several.common_back(3, TWO, code))
@@ -305,7 +314,8 @@ class TestHowMany(support.Case):
         """All terms count."""
         many = tuple(reference.random_term(CHANCE, 10, 3) for _ in range(64))
         for formulas, free in (
-            ((many[:1],) * 4, 3), ((many[:2], many[:2]), 3), ((many[:31], many[:32]), 7), ((many,), 0), ((many[:62], ((),)), 7),
+            ((many[:1],) * 4, 3), ((many[:2], many[:2]), 3), ((many[:31], many[:32]), 7), ((many,), 0),
+            ((many[:62], ((),)), 7),
         ):
             self.refuses(errors.TooMany, 60000, several.common_bad, 10, formulas, free, 2, 2)
             self.refuses(errors.InvalidNumber, 11, several.common_bad, 10, formulas, free, 2, 11)

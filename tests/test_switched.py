@@ -53,7 +53,8 @@ class TestColefts(support.Case):
     def test_edges(self):
         self.assertEqual(switched.colefts((), ()), ())
         self.assertEqual(switched.colefts((), ((),)), ((),))
-        self.assertEqual(switched.colefts((0, 2), (((0, 1),), ((0, 0), (1, 1)), ((1, 1),), ((0, 1),))), ((), ((1, 1),), ()))
+        self.assertEqual(switched.colefts((0, 2), (((0, 1),), ((0, 0), (1, 1)), ((1, 1),), ((0, 1),))),
+            ((), ((1, 1),), ()))
 
     def test_arguments(self):
         self.checks(switched.colefts, support.any_restriction((2, 0, 2)), support.formula(3, PAIR))
@@ -105,8 +106,10 @@ class TestSwitched(support.Case):
         clauses = (((0, 1), (1, 0)), ((1, 1), (2, 1)))
         right = [("both", clauses, ONE), switched.switched((2, 2, 2), ONE, 3), ("both", clauses * 512, ONE * 512)]
         wrong = [("both", clauses * 513, ONE), ("both", clauses, ONE * 513), ("both", ONE, clauses), ("both", clauses)]
-        wrong += [("both", clauses, ONE, ()), ("both", clauses[:1], ONE), ("both", clauses, ONE[:1]), ("codes", clauses, ONE)]
-        wrong += [("both", clauses, ONE[:1] + (((1, 0), (2, 1), (3, 1)),)), ("both", clauses, None), ("both", None, ONE)]
+        wrong += [("both", clauses, ONE, ()), ("both", clauses[:1], ONE), ("both", clauses, ONE[:1]),
+            ("codes", clauses, ONE)]
+        wrong += [("both", clauses, ONE[:1] + (((1, 0), (2, 1), (3, 1)),)), ("both", clauses, None),
+            ("both", None, ONE)]
         self.takes_just(switched.is_switched, ((2, 2, 2), ONE, 3), right[:2], wrong)
         self.assertIs(switched.is_switched((2, 2, 2), ONE, 3, right[2]), True)
         self.takes_just(switched.is_switched, ((2, 2, 2), ONE, 2), [switched.switched((2, 2, 2), ONE, 2)], right)

@@ -13,7 +13,8 @@ CHANCE = random.Random(1313)
 DEEP = (((0, 1), (1, 1)), ((1, 1), (2, 1), (3, 1)), ((1, 0), (4, 1), (5, 1)))
 PAIR = (((0, 1), (1, 0)), ((1, 1),), ((0, 1), (1, 0), (2, 1)))
 PARTS = (
-    ("letter", 0, 1), ("letter", 0, 0), ("letter", 1, 1), ("letter", 1, 0), ("and", (0, 3)), ("and", (1, 2)), ("or", (4, 5)),
+    ("letter", 0, 1), ("letter", 0, 0), ("letter", 1, 1), ("letter", 1, 0), ("and", (0, 3)), ("and", (1, 2)),
+    ("or", (4, 5)),
 )
 THREE = ("ands", ((((0, 1), (1, 1)), ((2, 1),)), (((0, 0),),)), (((0, 1),),))
 ODD = tuple(tuple(enumerate(row)) for row in reference.inputs(7) if sum(row) % 2)
@@ -25,8 +26,10 @@ def fitting_trees(most=3, many=12):
     for n in range(most + 1):
         for restriction in reference.restrictions(n):
             free = reference.free(restriction)
-            for tree in [0, 1] + [reference.random_tree(CHANCE, free, CHANCE.choice((0, 0.2, 0.5))) for _ in range(many)]:
-                yield restriction, tree
+            yield restriction, 0
+            yield restriction, 1
+            for _ in range(many):
+                yield restriction, reference.random_tree(CHANCE, free, CHANCE.choice((0, 0.2, 0.5)))
 
 
 def fitting_tree(restriction, good):
@@ -68,7 +71,8 @@ class TestTrees(support.Case):
         for restriction, tree in fitting_trees(3, 5):
             for _ in range(4):
                 table = tuple(CHANCE.randrange(2) for _ in range(2 ** len(restriction)))
-                unlike = [r for r in reference.fitting(restriction) if reference.tree_value(tree, r) != reference.value(table, r)]
+                there = reference.fitting(restriction)
+                unlike = [r for r in there if reference.tree_value(tree, r) != reference.value(table, r)]
                 self.assertEqual(wrong.wrong_number(restriction, tree, table), len(unlike))
             odd = reference.table_by(len(restriction), reference.sum_of)
             if reference.depth(tree) < restriction.count(2):
@@ -122,20 +126,24 @@ class TestPlans(support.Case):
     def test_any_plan(self):
         """Plans that the program itself would not give."""
         for table, tree in itertools.product(((0, 1, 1, 0), (1, 0, 0, 1)), ((0, 0, 1), (1, 0, 1), (0, 1, 0), 0, 1)):
-            right = [row for row in reference.inputs(2) if reference.tree_value(tree, row) != reference.value(table, row)]
+            rows = reference.inputs(2)
+            right = [row for row in rows if reference.tree_value(tree, row) != reference.value(table, row)]
             for one, other in itertools.product((0, 1), repeat=2):
                 plan = {(2, 2): (one, other), (one, 2): (), (2, other): ()}
                 self.assertIn(wrong.unlike_by(table, 1, plan, tree), right)
 
     def test_arguments(self):
         table, plan = (0, 1, 1, 0), {(2, 2): (0, 1), (0, 2): (), (2, 1): ()}
-        bad = [None, True, 0, (), [], "", {}, {(2, 2): ()}, {(2, 2): (0, 0), (0, 2): (), (2, 1): ()}, {(2,): ()}, {(): ()}]
-        bad += [{**plan, (2, 2): [0, 1]}, {**plan, (2, 2): (False, 1)}, {**plan, (0, 2): None}, {(2, 2): (0, 1), (0, 2): ()}]
+        bad = [None, True, 0, (), [], "", {}, {(2, 2): ()}, {(2, 2): (0, 0), (0, 2): (), (2, 1): ()}, {(2,): ()},
+            {(): ()}]
+        bad += [{**plan, (2, 2): [0, 1]}, {**plan, (2, 2): (False, 1)}, {**plan, (0, 2): None},
+            {(2, 2): (0, 1), (0, 2): ()}]
         bad += [[plan], ("plan", plan), {**plan, None: ()}, {**plan, (2, 2): (0, 1, 1)}, {**plan, (0, 0): ()}, 10 ** 10]
         trees = support.tree(2, (0, 0, 1))
         trees.wrong += [(0, 0, (1, 0, 1)), (1, (0, 0, 0), 1)]
         depth = support.number(1, 0, 10)
-        self.checks(wrong.unlike_by, support.table(table), depth, support.Argument(plan, errors.InvalidOperation, bad), trees)
+        self.checks(wrong.unlike_by, support.table(table), depth,
+            support.Argument(plan, errors.InvalidOperation, bad), trees)
         for other in (0, 2, 3, 10):
             self.refuses(errors.InvalidOperation, None, wrong.unlike_by, table, other, plan, 0)
         self.refuses(errors.InvalidOperation, None, wrong.unlike_by, (0, 0, 0, 0), 1, plan, 0)
@@ -163,7 +171,8 @@ class TestFormulas(support.Case):
 
     def test_answers(self):
         for n in range(4):
-            for formula in reference.some_formulas(n, 12, 51) + [tuple(tuple(enumerate(r)) for r in reference.inputs(n) if sum(r) % 2)]:
+            odd = tuple(tuple(enumerate(row)) for row in reference.inputs(n) if sum(row) % 2)
+            for formula in reference.some_formulas(n, 12, 51) + [odd]:
                 for restriction in reference.restrictions(n):
                     self.check(n, formula, restriction)
 
@@ -186,7 +195,9 @@ class TestFormulas(support.Case):
         else:
             self.assertEqual(answer, ("deep", code))
             self.assertNotIn(2, code[0])
-            others = [("wrong", row) for row in rows] + [("deep", (code[1], code)), ("deep", None)]
+            others = [("wrong", row) for row in rows] + [("deep", (code[1], code)), ("deep", None), ("code", code)]
+            others += [("deep", (other, code[1])) for other in reference.restrictions(n) if other != code[0]]
+            others += [("deep", (code[0], code[1] + ((0, 0, 1),)))]
             self.takes_just(*judge, [answer], others)
 
     def test_arguments(self):
@@ -227,7 +238,8 @@ class TestRefuted(support.Case):
                 right = [(row, r) for r in there if reference.fits(r, row[-1])]
                 self.assertEqual(len(right), 2 ** (free[-1] - 1))
                 self.assertIn(wrong.refuted(*call), right)
-                others = [(row, r) for r in rows if (row, r) not in right] + [(row[:-1], right[0][1]), ((*row, row[-1]), right[0][1])]
+                others = [(row, r) for r in rows if (row, r) not in right]
+                others += [(row[:-1], right[0][1]), ((*row, row[-1]), right[0][1])]
                 self.takes_just(wrong.is_refuted, call, right, others)
         self.assertLessEqual({"deep", "wrong", ("charged", 0), ("charged", 1)}, ends)
 
@@ -240,8 +252,10 @@ class TestRefuted(support.Case):
                     wrong.refuted(2, layers, (free,), (depth,))
 
     def test_arguments(self):
-        free = support.Argument((2, 1), errors.InvalidOperation, support.NO_TUPLES + [(2,), (1, 2), (4, 1), (2, -1), (True, 1)])
-        depths = support.Argument((2, 2), errors.InvalidOperation, support.NO_TUPLES + [(2,), (0, 1), (11, 1), (2, 2, 2), (True, 1)])
+        free = support.Argument((2, 1), errors.InvalidOperation,
+            support.NO_TUPLES + [(2,), (1, 2), (4, 1), (2, -1), (True, 1)])
+        depths = support.Argument((2, 2), errors.InvalidOperation,
+            support.NO_TUPLES + [(2,), (0, 1), (11, 1), (2, 2, 2), (True, 1)])
         arguments = (support.letters(3), support.layers(3, THREE), free, depths)
         self.checks(wrong.refuted, *arguments)
         self.judges(wrong.is_refuted, *arguments)
@@ -267,7 +281,8 @@ class TestCircuits(support.Case):
             for _ in range(40):
                 circuit = reference.random_circuit(CHANCE, n, CHANCE.randint(1, 10))
                 table = reference.circuit_table(n, circuit)
-                there = tuple(row for row in reference.inputs(n) if reference.value(table, row) != reference.sum_of(row))
+                there = tuple(row for row in reference.inputs(n) if reference.value(table,
+                    row) != reference.sum_of(row))
                 self.assertEqual(wrong.wrong_of(n, circuit), there)
         self.assertEqual(wrong.wrong_of(2, PARTS), ())
         self.assertEqual(wrong.wrong_of(0, (("or", ()),)), ())

@@ -103,4 +103,3 @@ def values_told(table):
     low = values_told(table[:half_way])
     high = values_told(table[half_way:])
     return low + high + [one if one == other else 2 for one, other in zip(low, high)]
-

@@ -33,17 +33,17 @@ def need_common_deep(restriction, formulas, t, s):
     need_depth(s)
 
 
-def all_marks(formulas):
+def marked_formulas(formulas):
     return [marks_of(formula) for formula in formulas]
 
 
-def next_turn(restriction, several, t):
+def next_turn(restriction, marked, t):
     """The index of the first deep formula and its turn row, None if no formula is deep.
 
     The formulas are told by their marks, here and below.
     """
     told, ones = mark_of_told(restriction)
-    for index, marks in enumerate(several):
+    for index, marks in enumerate(marked):
         row = deep_grown(marks, 0, told, ones, t, True)
         if row is not None:
             return index, row
@@ -57,36 +57,36 @@ def letters_asked(literals):
 def turn_of(restriction, formulas, t):
     """The pair of the index of the first deep formula and of its turn row, or None."""
     need_common(restriction, formulas, t)
-    return next_turn(restriction, all_marks(formulas), t)
+    return next_turn(restriction, marked_formulas(formulas), t)
 
 
-def common_grown(restriction, several, t):
-    turn = next_turn(restriction, several, t)
+def common_grown(restriction, marked, t):
+    turn = next_turn(restriction, marked, t)
     if turn is None:
         return ()
-    return common_asking(restriction, several, t, letters_asked(turn[1]))
+    return common_asking(restriction, marked, t, letters_asked(turn[1]))
 
 
-def common_asking(restriction, several, t, letters):
+def common_asking(restriction, marked, t, letters):
     """The tree that asks these letters, and then goes on as the common tree."""
     if not letters:
-        return common_grown(restriction, several, t)
+        return common_grown(restriction, marked, t)
     letter, *rest = letters
-    low = common_asking(told_too(restriction, [(letter, 0)]), several, t, rest)
-    high = common_asking(told_too(restriction, [(letter, 1)]), several, t, rest)
+    low = common_asking(told_too(restriction, [(letter, 0)]), marked, t, rest)
+    high = common_asking(told_too(restriction, [(letter, 1)]), marked, t, rest)
     return (letter, low, high)
 
 
 def common_tree(restriction, formulas, t):
     """The tree that asks the letters of turn rows as long as a formula is deep."""
     need_common(restriction, formulas, t)
-    return common_grown(restriction, all_marks(formulas), t)
+    return common_grown(restriction, marked_formulas(formulas), t)
 
 
 def common_depth(restriction, formulas, t):
     """The depth of the common tree."""
     need_common(restriction, formulas, t)
-    return depth_of_common(common_grown(restriction, all_marks(formulas), t))
+    return depth_of_common(common_grown(restriction, marked_formulas(formulas), t))
 
 
 def depth_of_common(tree):
@@ -98,37 +98,37 @@ def depth_of_common(tree):
 
 def is_common_tree(restriction, formulas, t, value):
     need_common(restriction, formulas, t)
-    return is_common_behind(restriction, all_marks(formulas), t, value)
+    return is_common_behind(restriction, marked_formulas(formulas), t, value)
 
 
-def is_common_behind(restriction, several, t, value):
+def is_common_behind(restriction, marked, t, value):
     """Whether the value asks free letters alone, none twice, and leaves no formula deep at its ends."""
     if is_tuple_of(value, 0):
-        return next_turn(restriction, several, t) is None
+        return next_turn(restriction, marked, t) is None
     if not is_tuple_of(value, 3):
         return False
     letter, low, high = value
     if not is_letter(len(restriction), letter) or restriction[letter] != 2:
         return False
     told_low, told_high = [told_too(restriction, [(letter, bit)]) for bit in (0, 1)]
-    return is_common_behind(told_low, several, t, low) and is_common_behind(told_high, several, t, high)
+    return is_common_behind(told_low, marked, t, low) and is_common_behind(told_high, marked, t, high)
 
 
-def common_row(restriction, several, t, s):
+def common_row(restriction, marked, t, s):
     """The first tuple of the first s literals along a way of the common tree, None if it is less deep."""
     if s == 0:
         return ()
-    turn = next_turn(restriction, several, t)
-    return None if turn is None else common_row_asking(restriction, several, t, s, letters_asked(turn[1]))
+    turn = next_turn(restriction, marked, t)
+    return None if turn is None else common_row_asking(restriction, marked, t, s, letters_asked(turn[1]))
 
 
-def common_row_asking(restriction, several, t, s, letters):
+def common_row_asking(restriction, marked, t, s, letters):
     """The same where these letters are asked first."""
     if s == 0 or not letters:
-        return common_row(restriction, several, t, s)
+        return common_row(restriction, marked, t, s)
     letter, *rest = letters
     for answer in (0, 1):
-        behind = common_row_asking(told_too(restriction, [(letter, answer)]), several, t, s - 1, rest)
+        behind = common_row_asking(told_too(restriction, [(letter, answer)]), marked, t, s - 1, rest)
         if behind is not None:
             return ((letter, answer), *behind)
     return None
@@ -136,14 +136,14 @@ def common_row_asking(restriction, several, t, s, letters):
 
 def code_in_common(restriction, formulas, t, s):
     """The common code, None if the common tree is less than s deep."""
-    several = all_marks(formulas)
-    row = common_row(restriction, several, t, s)
+    marked = marked_formulas(formulas)
+    row = common_row(restriction, marked, t, s)
     if row is None:
         return None
     here = first = restriction
     turns = []
     while row:
-        index, turn_row = next_turn(here, several, t)
+        index, turn_row = next_turn(here, marked, t)
         asked = row[:len(turn_row)]
         # A turn row goes as the way of one formula does, so its pieces are those of a code.
         told, triples = code_for(here, formulas[index], turn_row[:len(asked)])
@@ -227,7 +227,7 @@ def common_answer(restriction, formulas, t, s):
     """The common tree if it is less than s deep, else the common code."""
     need_common_deep(restriction, formulas, t, s)
     code = code_in_common(restriction, formulas, t, s)
-    return ("tree", common_grown(restriction, all_marks(formulas), t)) if code is None else ("code", code)
+    return ("tree", common_grown(restriction, marked_formulas(formulas), t)) if code is None else ("code", code)
 
 
 def need_counted(n, formulas, free, t, s):
@@ -242,8 +242,8 @@ def common_bad(n, formulas, free, t, s):
     """How many restrictions with so many free letters have common trees at least s deep."""
     need_counted(n, formulas, free, t, s)
     need_work(count_with(n, free), sum([len(formula) for formula in formulas]))
-    several = all_marks(formulas)
-    rows = [common_row(restriction, several, t, s) for restriction in restrictions_with(n, free)]
+    marked = marked_formulas(formulas)
+    rows = [common_row(restriction, marked, t, s) for restriction in restrictions_with(n, free)]
     return len([row for row in rows if row is not None])
 
 

@@ -81,7 +81,8 @@ def rows_with(many, odd):
 def group_line(lines, group, inner, bit):
     """The line that has the value 1 where the sum of a group of members is the bit.
 
-    A member is a pair of lines: the first one has its other value, the second one its value.
+    A member is a pair of lines: the first one has its other value, the second one its value. For
+    a group of one member they are the lines of this member, as a gate of one line is this line.
     """
     # An and is true at one row, an or is false at one: so ors stand for the rows with the other sum.
     turn = 0 if inner == "and" else 1
@@ -98,10 +99,7 @@ def lines_by_blocks(n, sizes):
     for size in sizes:
         groups = [members[at:at + size] for at in range(0, len(members), size)]
         bits = (0, 1) if len(groups) > 1 else (1,)
-        members = [
-            group[0] if len(group) == 1 else tuple([group_line(lines, group, inner, bit) for bit in bits])
-            for group in groups
-        ]
+        members = [tuple([group_line(lines, group, inner, bit) for bit in bits]) for group in groups]
         inner = OTHER_WORDS[inner]
     return tuple(lines)
 
@@ -144,7 +142,8 @@ def least_sizes(n, levels):
     found = fitting_sizes(n, levels)
     if not found:
         raise Refused(("none",))
-    return min(found, key=lambda sizes: lines_counted(n, sizes))
+    _, least = min([(lines_counted(n, sizes), sizes) for sizes in found])
+    return least
 
 
 def is_least_sizes(n, levels, value):
