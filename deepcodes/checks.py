@@ -14,9 +14,13 @@ MOST_TRIPLES = 10
 MOST_WORK = 60000
 
 
-def is_number(value, least, most):
+def is_integer(value):
     # True and False are of the class int, but are no integers of the document.
-    return isinstance(value, int) and not isinstance(value, bool) and least <= value <= most
+    return isinstance(value, int) and not isinstance(value, bool)
+
+
+def is_number(value, least, most):
+    return is_integer(value) and least <= value <= most
 
 
 def is_bit(value):

@@ -498,3 +498,242 @@ def walk(n, layers, free, depths):
             layers = lowered(layers, here)
     tree = canonical(here, bottom(layers, 0))
     return ("tree", tuple(row), tree if layers[0] == "ands" else swapped_ends(tree)), layers
+
+
+def letters_of(table):
+    return len(table).bit_length() - 1
+
+
+def lots(letters):
+    """All ascending tuples of some of the letters, ascending."""
+    return sorted(lot for size in range(len(letters) + 1) for lot in itertools.combinations(letters, size))
+
+
+def wave(table, lot):
+    rows = inputs(letters_of(table))
+    return sum(1 if (value(table, row) + sum(row[letter] for letter in lot)) % 2 == 0 else -1 for row in rows)
+
+
+def waves_under(restriction, table):
+    """The waves of the table under the restriction, with the letters' own names."""
+    found = {}
+    for lot in lots(free(restriction)):
+        signs = [(-1) ** (value(table, row) + sum(row[letter] for letter in lot)) for row in fitting(restriction)]
+        found[lot] = sum(signs)
+    return found
+
+
+def whole_wave(table):
+    return wave(table, tuple(range(letters_of(table))))
+
+
+def deep_weight(table, m, s):
+    """By the restrictions, times the power of 2."""
+    n = letters_of(table)
+    total = 0
+    for restriction in with_free(n, m):
+        total += sum(found ** 2 for lot, found in waves_under(restriction, table).items() if len(lot) >= s)
+    return total * 2 ** (n - m) if m <= n else 0
+
+
+def turns(table):
+    """All pairs of an input and a letter that changes the value there."""
+    n = letters_of(table)
+    pairs = itertools.product(inputs(n), range(n))
+    return [(row, letter) for row, letter in pairs if value(table, row) != value(table, turned(row, letter))]
+
+
+def is_bush_leaf(bush):
+    return isinstance(bush, tuple) and len(bush) == 2
+
+
+def is_bush_gate(bush):
+    return isinstance(bush, tuple) and len(bush) == 3
+
+
+def bush_value(bush, row):
+    if is_bush_gate(bush):
+        sides = [bush_value(side, row) for side in bush[1:]]
+        return min(sides) if bush[0] == "and" else max(sides)
+    return int(row[bush[0]] == bush[1]) if is_bush_leaf(bush) else bush
+
+
+def bush_table(n, bush):
+    return table_by(n, lambda row: bush_value(bush, row))
+
+
+def bush_leaves(bush):
+    if is_bush_gate(bush):
+        return bush_leaves(bush[1]) + bush_leaves(bush[2])
+    return [bush] if is_bush_leaf(bush) else []
+
+
+def bush_told(bush, letter, bit):
+    """Leaves of the letter become 0 and 1, and then one gate after the other goes, as long as one can."""
+    bush = leaves_told(bush, letter, bit)
+    while True:
+        smaller = one_gate_less(bush)
+        if smaller == bush:
+            return bush
+        bush = smaller
+
+
+def leaves_told(bush, letter, bit):
+    if is_bush_gate(bush):
+        return (bush[0], *[leaves_told(side, letter, bit) for side in bush[1:]])
+    return int(bush[1] == bit) if is_bush_leaf(bush) and bush[0] == letter else bush
+
+
+def one_gate_less(bush):
+    if not is_bush_gate(bush):
+        return bush
+    for side, other in ((bush[1], bush[2]), (bush[2], bush[1])):
+        if side in (0, 1):
+            return other if (bush[0], side) in (("and", 1), ("or", 0)) else side
+    first = one_gate_less(bush[1])
+    return (bush[0], first, one_gate_less(bush[2]) if first == bush[1] else bush[2])
+
+
+def bush_parts(bush, path=()):
+    """All pairs of a path and the part that it tells."""
+    found = [(path, bush)]
+    if is_bush_gate(bush):
+        found += bush_parts(bush[1], path + (0,)) + bush_parts(bush[2], path + (1,))
+    return found
+
+
+def cut_paths(bush):
+    """The paths of all gates at which the bush can be cut."""
+    found = []
+    for path, part in bush_parts(bush):
+        if is_bush_gate(part):
+            for side, other in ((part[1], part[2]), (part[2], part[1])):
+                letters = [leaf[0] for leaf in bush_leaves(other)]
+                if side in (0, 1) or (is_bush_leaf(side) and side[0] in letters):
+                    found.append(path)
+    return sorted(set(found))
+
+
+def random_bush(chance, n, many):
+    """A bush of so many leaves, some of which can be 0 or 1."""
+    if many == 1:
+        if n and chance.random() < 0.93:
+            return (chance.randrange(n), chance.randrange(2))
+        return chance.randrange(2)
+    first = chance.randrange(1, many)
+    sides = [random_bush(chance, n, first), random_bush(chance, n, many - first)]
+    return (chance.choice(("and", "or")), *sides)
+
+
+def are_neighbours(row, other):
+    return sum(one != two for one, two in zip(row, other)) == 1
+
+
+def polynomial_value(polynomial, row):
+    return sum(number for lot, number in polynomial.items() if all(row[letter] for letter in lot)) % 3
+
+
+def polynomial_row(n, polynomial):
+    return tuple(polynomial_value(polynomial, row) for row in inputs(n))
+
+
+def tidied(polynomial):
+    """With ascending lots, and without those that have a 0."""
+    return {lot: polynomial[lot] % 3 for lot in sorted(polynomial) if polynomial[lot] % 3}
+
+
+def added(*some):
+    found = {}
+    for polynomial in some:
+        for lot, number in polynomial.items():
+            found[lot] = found.get(lot, 0) + number
+    return tidied(found)
+
+
+def times(one, other):
+    found = {}
+    for lot, number in one.items():
+        for second, factor in other.items():
+            both = tuple(sorted(set(lot) | set(second)))
+            found[both] = found.get(both, 0) + number * factor
+    return tidied(found)
+
+
+def one_less(polynomial):
+    """1 less the polynomial."""
+    return added({(): 1}, times({(): 2}, polynomial))
+
+
+def line_polynomials(circuit, factors):
+    """The polynomials of the lines, just as the document builds them."""
+    found = []
+    for line, tuples in zip(circuit, factors):
+        if line[0] == "letter":
+            letter = {(line[1],): 1}
+            found.append(letter if line[2] else one_less(letter))
+            continue
+        members = [found[at] for at in line[1]]
+        if line[0] == "thirds":
+            total = added(*members)
+            found.append(times(total, total))
+        elif line[0] == "or":
+            found.append(or_polynomial(members, tuples))
+        else:
+            found.append(one_less(or_polynomial([one_less(member) for member in members], tuples)))
+    return found
+
+
+def or_polynomial(members, tuples):
+    product = {(): 1}
+    for numbers in tuples:
+        total = added(*[times({(): number}, member) for number, member in zip(numbers, members)])
+        product = times(product, one_less(times(total, total)))
+    return one_less(product)
+
+
+def line_charges(n, circuit, factors):
+    """For each line the charged inputs, and the doubtful ones."""
+    polynomials = line_polynomials(circuit, factors)
+    found = []
+    for line, polynomial in zip(circuit, polynomials):
+        charged, doubtful = [], []
+        for row in inputs(n) if line[0] in ("and", "or") else ():
+            values = [polynomial_value(polynomials[at], row) for at in line[1]]
+            told = int(any(values) if line[0] == "or" else all(values))
+            if polynomial_value(polynomial, row) != told:
+                charged.append(row)
+            if (1 if line[0] == "or" else 0) in values:
+                doubtful.append(row)
+        found.append((tuple(charged), tuple(doubtful)))
+    return found
+
+
+def thirds_values(circuit, row):
+    values = []
+    for line in circuit:
+        if line[0] == "letter":
+            values.append(int(row[line[1]] == line[2]))
+        else:
+            members = [values[at] for at in line[1]]
+            by_word = {"and": all(members), "or": any(members), "thirds": sum(members) % 3 != 0}
+            values.append(int(by_word[line[0]]))
+    return values
+
+
+def thirds_table(n, circuit):
+    return table_by(n, lambda row: thirds_values(circuit, row)[-1])
+
+
+def random_thirds(chance, n, many, width=4):
+    """A circuit with thirds of so many lines."""
+    lines = []
+    for line in random_circuit(chance, n, many, width):
+        lines.append(("thirds", line[1]) if line[0] != "letter" and chance.random() < 0.25 else line)
+    return tuple(lines)
+
+
+def random_factors(chance, circuit, rounds):
+    return tuple(
+        tuple(tuple(chance.randrange(3) for _ in line[1]) for _ in range(rounds)) if line[0] in ("and", "or") else ()
+        for line in circuit
+    )

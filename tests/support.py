@@ -4,6 +4,7 @@ import itertools
 import unittest
 
 from deepcodes import errors
+from deepcodes.use import bench
 
 
 def nested(wrap, depth=200):
@@ -56,7 +57,31 @@ JUNK = DEEP_VALUES + [
     ("wrong", (0,)), ("wrong", [0]), ("wrong", (2,)), ("wrong", DEEP_VALUES[0]), ("deep", None), ("deep", ((), ())),
     ("deep", ((True,), ())), ("deep", DEEP_VALUES[0]), (((2,),), (0,)), (None, None), (((2,),), None), (((2,),), [0]),
     ("sum", None), ("sum", True), ("sum", 10 ** 30), ("sum", [1]), ("sum", (1,)), (2, 2), (10 ** 20,), (2, 10 ** 20),
-    [2, 2],
+    [2, 2], ("low",), ("low", 0), ["low"], ("deep", (2,)), ("deep", (0, 2)), ("deep", [2, 2]), {(): 1}, {(): True},
+    {(): -1}, {(0,): 1}, {(0,): 10 ** 40}, {(True,): 1}, {(0, 0): 1}, {(1, 0): 2}, {(): 0}, {(): 3}, {0: 1},
+    {(): 2, (0,): 2, (1,): 2, (0, 1): -2}, {(): DEEP_VALUES[0]}, ("formula", None), ("formula", ()), ("formula", [()]),
+    ("formula", (((0, 10 ** 20),),)), ("formula", DEEP_VALUES[0]), ("nice",), ("nice", ()), ["nice"], ("cut", ()),
+    ("cut", None), ("cut", [0]), ("cut", (0,)), ("cut", (True,)), ("cut", (2,)), ("cut", (None,)), ("cut", (0,) * 200),
+    ("cut", DEEP_VALUES[0]), ((), (0,)), ((), (1,)), ((), [0]), ([], (0,)), (((0, 1),), (1, 1)), (((0, 1),), None),
+    (((0, 1), (0, 1)), (1, 1)), ((DEEP_VALUES[0],), (0,)), ("and", 0, 1), ("or", 0, (0, 1)), ("and", 0), ["and", 0, 1],
+    ("and", (0, 1), (0, True)), ("or", 0, 2), ("and", None, None), ("nor", 0, 1), (0, 1), (0, 0), (10 ** 20, 1),
+    nested(lambda value: ("and", value, value)), nested(lambda value: ("or", value, 1)),
+    nested(lambda value: ("and", 0, value)), ("leaves", (), (), 0), ("leaves", (0,), (), 0), ("leaves", (), (0,), 0),
+    ("leaves", None, None, None), ("leaves", (), (), True), ("leaves", [], [], 0), ("leaves", (0,), (1,), 10 ** 30),
+    ("leaves", (0, 0), (1,), 0), ("leaves", (False,), (1,), 0), ("leaves", (10 ** 20,), (), 0), ("leaves",),
+    ("leaves", DEEP_VALUES[0], DEEP_VALUES[0], 0), ("charged", (0,)), ("charged", (0, 0)), ("charged", None),
+    ("charged", (True,)), ("charged", DEEP_VALUES[0]), (("thirds", ()),), (("thirds", (0,)),), (("thirds", None),),
+    (((),),), (((0,),),), (((True,),),), ((((),),),), ("low", (), (), 0), ("low", (2,), (((0, 1),),), 1),
+    ("low", [], (), 0), ("low", (), (), True), ("low", None, None, None), ("deep", (), (), 10 ** 30),
+    ("some", 0, (), 0, 0), ("none", 0, (), 0, 1), ("some", True, (), 0, 0), ("none", 0, (), 1, 0), ("some",),
+    ("asked", (0,), 0), ("open", (0, 1), 0), ("asked", [0], 0), ("open", (0, True), 0), ("asked", (0, 1, 0), 1),
+    ("narrow", (0, 1), 1, 0), ("wide", (0, 1), True, 0), ("narrow", (0, 1), 2, 0), ("wide", (0,), 0, None),
+    ("led", 0, ("ands", ((),), ()), (0,), (1,)), ("stuck", 0, ("ands", ((),), ()), (0,), (0,)), ("led", 0, (), (), ()),
+    ("stuck", 7, ("ands", ((),), ()), (0,), (1,)), ("led", DEEP_VALUES[0], DEEP_VALUES[1], (), ()),
+    ("sums", 0, (("and", ()),)), ("errs", 0, ()), ("sums", None, None), ("errs", 1, (("letter", 0, 1),)),
+    (DEEP_VALUES[0],), ([],), ({},), (("low",), (), (), 0), ("low", DEEP_VALUES[0], DEEP_VALUES[1], DEEP_VALUES[2]),
+    ((), 0), ((), 1), (((), (2,)),), ((((), (2,)),), 0), ((((), ()),), 0), ((((), ()),), 1), (((), ()),), (((),), ()),
+    ((((), DEEP_VALUES[0]),), 0), (((DEEP_VALUES[0], ()),), 0), (DEEP_VALUES[0], DEEP_VALUES[3]), bench.Bench(2),
 ]
 
 NO_NUMBERS = [
@@ -217,6 +242,25 @@ def layers(n, good):
     )]
     wrong += [(word, ((),), (((0,), (0,)), ((2,),))), (word, ((),), (((0,),), ((1,),)))]
     return Argument(good, errors.InvalidCircuit, wrong)
+
+
+def bush(n, good):
+    wrong = [None, True, False, 2, -1, 10 ** 10, "", "0", "and", (), [], {}, [0, 1], ["and", 0, 1], (0,), (0, 0, 1)]
+    wrong += [("and",), ("and", 0), ("and", 0, 1, 1), ("nor", 0, 1), ("and", 0, None), ("or", True, 0), ("or", 0, False)]
+    wrong += [("and", 0, [0, 1]), ("or", 2, 0), (n, 1), (-1, 0), (None, 0), ("0", 1), (10 ** 10, 1), ((), 1), ([], 0)]
+    wrong += [("ands", 0, 1), (0, 2), (0, None), (0, "1"), ("or", (n, 0), 1), (None, 0, 1), ([], 0, 1)]
+    wrong += [chain(128), ("or", chain(64), chain(63))]
+    if n:
+        wrong += [(0, True), (False, 1), ("and", (0, 1), (0, True)), (0, 10 ** 10)]
+    return Argument(good, errors.InvalidFormula, wrong)
+
+
+def chain(many, leaf=0):
+    """A bush of so many gates."""
+    found = leaf
+    for _ in range(many):
+        found = ("and", found, leaf)
+    return found
 
 
 class Case(unittest.TestCase):

@@ -6,11 +6,11 @@ import unittest
 from deepcodes import errors
 
 BLOCKS = (
-    ('Examples', None, r"""
+    ('Examples', (), r"""
 >>> DEEP = (((0, 1), (1, 1)), ((1, 1), (2, 1), (3, 1)), ((1, 0), (4, 1), (5, 1)))
 >>> FREE, SHUT = (2,) * 6, (0, 2, 2, 2, 2, 2)
 """),
-    ('Stage 1: inputs and tables', "deepcodes.letters.rows", r"""
+    ('Stage 1: inputs and tables', ("deepcodes.letters.rows",), r"""
 >>> AND, SUM = (0, 0, 0, 1), sum_table(2)
 >>> [SUM, inputs(2), dual_of(AND), not_of(AND), number_of(3, (1, 0, 1)), half(SUM, 1, 1), joined((0, 0), (0, 1), 1) == AND]
 [(0, 1, 1, 0), ((0, 0), (1, 0), (0, 1), (1, 1)), (0, 1, 1, 1), (1, 1, 1, 0), 5, (1, 0), True]
@@ -22,7 +22,7 @@ BLOCKS = (
 >>> half(AND, 2, 0)
 raises InvalidNumber(2)
 """),
-    ('Stage 2: terms and formulas', "deepcodes.letters.terms", r"""
+    ('Stage 2: terms and formulas', ("deepcodes.letters.terms",), r"""
 >>> F = (((0, 1), (1, 1)), ((1, 0), (2, 1)))
 >>> [width_of(3, F), formula_table(3, F), coformula_table(3, F), turned(3, F)]
 [2, (0, 0, 0, 1, 1, 1, 0, 1), (0, 1, 0, 0, 0, 1, 1, 1), (((0, 0), (1, 0)), ((1, 1), (2, 0)))]
@@ -36,7 +36,7 @@ raises InvalidNumber(2)
 >>> width_of(2, F)
 raises InvalidFormula
 """),
-    ('Stage 3: restrictions', "deepcodes.told.restrictions", r"""
+    ('Stage 3: restrictions', ("deepcodes.told.restrictions",), r"""
 >>> [number_of(SHUT), restriction_at(3, 5), restrictions(2, 1), how_many(6, 2), fitting((2, 1)), table_under((0, 1, 1, 0), (2, 1))]
 [726, (2, 1, 0), ((2, 0), (2, 1), (0, 2), (1, 2)), 240, ((0, 1), (1, 1)), (1, 0)]
 >>> [behind((2, 0, 2), (1, 2)), through((1, 0, 2), 2), order_answer((1, 0, 2), (2, 0, 2)), is_order_answer((1, 2), (0, 1), ("letter", 1))]
@@ -46,7 +46,7 @@ raises InvalidFormula
 >>> behind((2, 0), (1, 2))
 raises InvalidRestriction
 """),
-    ('Stage 4: trees', "deepcodes.trees.trees", r"""
+    ('Stage 4: trees', ("deepcodes.trees.trees",), r"""
 >>> PICK = (0, (1, 0, 1), (2, 1, 1))
 >>> [depth_of(3, PICK), end_number(3, PICK), table_of(3, PICK), ways(3, PICK)[1:3]]
 [2, 4, (0, 1, 1, 1, 0, 1, 1, 1), ((((0, 0), (1, 1)), 1), (((0, 1), (2, 0)), 1))]
@@ -57,7 +57,7 @@ raises InvalidRestriction
 >>> value_at(1, (0, 0, 1), (2,))
 raises InvalidInput
 """),
-    ('Stage 5: least trees', "deepcodes.trees.least", r"""
+    ('Stage 5: least trees', ("deepcodes.trees.least",), r"""
 >>> MOST = (0, 0, 0, 1, 0, 1, 1, 1)
 >>> [least_depth(MOST), certificate_sizes(MOST), certificate(MOST, (0, 1, 1)), told_tree(MOST)]
 [3, (2, 2), (1, 2), (0, (1, 0, (2, 0, 1)), (1, (2, 0, 1), 1))]
@@ -69,7 +69,7 @@ raises InvalidInput
 >>> certificate(MOST, (0, 1))
 raises InvalidInput
 """),
-    ('Stage 6: canonical trees', "deepcodes.canon.canonical", r"""
+    ('Stage 6: canonical trees', ("deepcodes.canon.canonical",), r"""
 >>> [canonical_depth(FREE, DEEP), canonical_depth(SHUT, DEEP), deep_row(FREE, DEEP, 3), deep_row(FREE, DEEP, 5)]
 [4, 5, ((0, 0), (1, 0), (4, 0)), None]
 >>> PAIR = (((0, 1), (1, 0)), ((1, 1),), ((0, 1), (1, 0), (2, 1)))
@@ -82,7 +82,7 @@ raises InvalidInput
 >>> way_at(SHUT, DEEP, (1, 0, 0, 0, 0, 0))
 raises InvalidOperation
 """),
-    ('Stage 7: codes there and back', "deepcodes.canon.codes", r"""
+    ('Stage 7: codes there and back', ("deepcodes.canon.codes",), r"""
 >>> CODE = code_of(FREE, DEEP, 4)
 >>> [CODE, led_back(6, DEEP, CODE) == FREE, terms_back(6, DEEP, CODE)]
 [((1, 1, 2, 2, 1, 1), ((0, 0, 0), (1, 0, 1), (1, 0, 0), (2, 0, 1))), True, (0, 2)]
@@ -96,7 +96,7 @@ raises InvalidOperation
 >>> codes_at(3, PAIR, 4, 1)
 raises InvalidNumber(4)
 """),
-    ('Stage 8: how many codes there are', "deepcodes.canon.counts", r"""
+    ('Stage 8: how many codes there are', ("deepcodes.canon.counts",), r"""
 >>> [row_number(2, 1), row_number(2, 2), row_number(3, 2), is_row(2, 2, ((1, 0, 1), (0, 1, 1))), is_row(2, 2, ((1, 0, 0), (0, 1, 1)))]
 [4, 20, 48, True, False]
 >>> ONE = (((0, 1), (1, 1)), ((1, 0), (2, 1)))
@@ -105,7 +105,7 @@ raises InvalidNumber(4)
 >>> count_paper(3, ONE, 2, 2)
 (4, 20, 8, 6)
 """),
-    ('Stage 9: the other sort', "deepcodes.canon.switched", r"""
+    ('Stage 9: the other sort', ("deepcodes.canon.switched",), r"""
 >>> [colefts((0, 2, 2), ONE), switched((2, 2, 2), ONE, 3), switched((2, 0, 2), ONE, 2)[0]]
 [(((1, 1),), ((1, 0), (2, 1))), ('code', ((1, 1, 1), ((0, 0, 0), (1, 0, 1), (1, 0, 1)))), 'both']
 >>> [is_switched((2, 2, 2), ONE, 3, ("both", (((0, 1), (1, 0)), ((1, 1), (2, 1))), ONE)), is_switched((2, 2, 2), ONE, 2, ("both", (((0, 1), (1, 0)), ((1, 1), (2, 1))), ONE))]
@@ -115,7 +115,7 @@ raises InvalidNumber(4)
 >>> [grades((2, 2, 2), ONE), grades(FREE, DEEP), grades(SHUT, DEEP), stiff_number(3, ONE, 2, 2), stiff_number(3, ONE, 3, 3)]
 [(2, 2, 2, 3), (3, 3, 4, 4), (3, 2, 3, 5), 2, 0]
 """),
-    ('Stage 10: several formulas at once', "deepcodes.several.several", r"""
+    ('Stage 10: several formulas at once', ("deepcodes.several.several",), r"""
 >>> BOTH = (DEEP, (((0, 1),), ((2, 1), (5, 0))))
 >>> [turn_of(SHUT, BOTH, 3), turn_of(FREE, BOTH, 5), common_depth(FREE, BOTH, 2)]
 [(0, ((1, 0), (2, 0), (3, 0))), None, 4]
@@ -123,7 +123,7 @@ raises InvalidNumber(4)
 >>> [MARKED, common_back(6, BOTH, MARKED) == FREE, common_answer(FREE, BOTH, 2, 5)[0]]
 [((1, 1, 2, 2, 1, 1), ((0, ((0, 0, 0, 0), (1, 0, 1, 0))), (0, ((1, 0, 0, 0), (2, 0, 1, 0))))), True, 'tree']
 """),
-    ('Stage 11: circuits and layers', "deepcodes.circuits.circuits", r"""
+    ('Stage 11: circuits and layers', ("deepcodes.circuits.circuits",), r"""
 >>> PARTS = (("letter", 0, 1), ("letter", 0, 0), ("letter", 1, 1), ("letter", 1, 0), ("and", (0, 3)), ("and", (1, 2)), ("or", (4, 5)))
 >>> [circuit_table(2, PARTS), circuit_depth(2, PARTS), not_of(2, PARTS)[6], circuit_value(2, PARTS, (1, 1)), circuit_depth(0, (("and", ()),))]
 [(0, 1, 1, 0), 2, ('and', (4, 5)), 0, 1]
@@ -135,7 +135,7 @@ raises InvalidNumber(4)
 >>> layers_of(2, ())
 raises InvalidCircuit
 """),
-    ('Stage 12: layers led down', "deepcodes.circuits.lowered", r"""
+    ('Stage 12: layers led down', ("deepcodes.circuits.lowered",), r"""
 >>> [bottom_of(3, THREE, 1), bottom_of(1, ("ors", ((((0, 1),),),), ()), 0), told_more((2, 0), 0), charge_of(3, THREE, (2, 2, 2), 3)]
 [(((0, 0),),), (((0, 0),),), ((0, 0), (1, 0)), (0, ((1, 1, 1), ((0, 0, 0), (1, 0, 1), (0, 0, 1))))]
 >>> [lowered(3, THREE, (2, 1, 2), 3), walk(3, THREE, (2, 1), (2, 2)), gates_at_least(10, 1, 1, 1)]
@@ -143,7 +143,7 @@ raises InvalidCircuit
 >>> walk(1, ("ands", ((((0, 1),),),), ()), (1,), (1,))
 ('charged', (), ((0, ((1,), ((0, 0, 1),))),))
 """),
-    ('Stage 13: wrong inputs', "deepcodes.circuits.wrong", r"""
+    ('Stage 13: wrong inputs', ("deepcodes.circuits.wrong",), r"""
 >>> [wrong_input((1, 0, 2), 0), is_wrong_input((2, 0, 2), (2, 0, 1), (1, 0, 0)), wrong_number((2, 0, 2), (2, 0, 1), (0, 1, 1, 0, 1, 0, 0, 1))]
 [(1, 0, 0), True, 2]
 >>> [formula_answer(FREE, DEEP)[0], formula_answer((2, 2), (((0, 1), (1, 0)), ((0, 0), (1, 1)))), formula_answer((), ())]
@@ -155,7 +155,7 @@ raises InvalidCircuit
 >>> wrong_input((2,), (0, 0, 1))
 raises Refused(('deep',))
 """),
-    ('Stage 14: formulas that tell the sum', "deepcodes.sums.leastsum", r"""
+    ('Stage 14: formulas that tell the sum', ("deepcodes.sums.leastsum",), r"""
 >>> [sum_formula(2), sum_coformula(2), sum_tree(2), sum_formula(0), sum_coformula(0)]
 [(((0, 0), (1, 1)), ((0, 1), (1, 0))), (((0, 0), (1, 0)), ((0, 1), (1, 1))), (0, (1, 0, 1), (1, 1, 0)), (), ((),)]
 >>> SHORT = (((0, 1),), ((0, 0), (1, 1), (2, 0)))
@@ -166,7 +166,7 @@ raises Refused(('deep',))
 >>> sum_formula(8)
 raises InvalidNumber(8)
 """),
-    ('Stage 15: circuits for the sum, by blocks', "deepcodes.sums.blocks", r"""
+    ('Stage 15: circuits for the sum, by blocks', ("deepcodes.sums.blocks",), r"""
 >>> [members_of(10, (3, 4)), blocks_number(10, (3, 4)), blocks_number(10, (10,)), blocks_number(9, least_sizes(9, 2)), is_sizes(3, (3, 2)), is_sizes(1, ())]
 [(10, 4, 1), 59, 533, 53, False, True]
 >>> [is_least_sizes(10, 2, (3, 4)), is_least_sizes(5, 2, (2, 3)), is_least_sizes(4, 4, (2, 2, 2, 2)), is_sum_circuit(2, (2,), PARTS)]
@@ -175,6 +175,82 @@ raises InvalidNumber(8)
 [35, True, True, (3, 3)]
 >>> least_sizes(4, 4)
 raises Refused(('none',))
+"""),
+    ('Stage 16: waves', ("deepcodes.letters.rows", "deepcodes.waves.waves"), r"""
+>>> AND = (0, 0, 0, 1)
+>>> [waves(AND), weights(AND), degree(AND), wave(sum_table(3), (0, 1, 2))]
+[{(): 2, (0,): 2, (0, 1): -2, (1,): 2}, (4, 8, 4), 2, 8]
+>>> [waves_under((2, 1), AND), waves_under((2, 0), AND), keeping(4, 3, 2, 1), deep_weight(AND, 1, 1), deep_number(AND, 1, 1), weight_paper(AND, 1, 1)]
+[{(): 0, (0,): 2}, {(): 2, (0,): 0}, 6, 16, 2, ((0, 0), (1, 4), (0, 0), (1, 4))]
+>>> [degree_answer(AND, 3), is_degree_answer(AND, 1, ("deep", (2, 1))), is_degree_answer(AND, 1, ("deep", (2, 0)))]
+[('low',), True, False]
+>>> wave(AND, (1, 0))
+raises InvalidOperation
+"""),
+    ('Stage 17: turns', ("deepcodes.waves.turns",), r"""
+>>> BOTH, SOME, ODD = (0, 0, 0, 1), (0, 1, 1, 1), (0, 1, 1, 0)
+>>> [turns_at(BOTH, (1, 1)), turn_counts(BOTH), turn_counts(SOME), turn_number(ODD), wrong_inputs(BOTH), border_number(BOTH), border_number(ODD)]
+[(0, 1), (2, 2), (2, 2), 8, ((1, 0), (0, 1), (1, 1)), 2, 0]
+>>> [least_wrong(4, 1, 8), least_wrong(3, 3, 4), way_sum(2, (0, 0, (1, 0, 1))), turns_under(ODD, 1), turns_under(BOTH, 2)]
+[6, 0, 6, 8, 4]
+>>> [width_answer(ODD, 1)[0], width_answer(ODD, 2)[0], is_width_answer(BOTH, 2, ("formula", (((0, 1), (1, 1)),))), is_width_answer(BOTH, 1, ("input", (1, 1))), is_width_answer(BOTH, 1, ("input", (1, 0)))]
+['input', 'formula', True, True, False]
+>>> turns_at(BOTH, (1,))
+raises InvalidInput
+"""),
+    ('Stage 18: bushes that shrink', ("deepcodes.small.shrink",), r"""
+>>> TWICE, CUT = ("or", ("and", (0, 1), (1, 1)), ("and", (0, 1), (2, 1))), ("and", (0, 1), ("or", (0, 1), (1, 1)))
+>>> [leaves(3, TWICE), nice_answer(3, TWICE), nice_answer(2, CUT), nice_bush(2, CUT), told_letter(3, TWICE, 1, 0)]
+[((0, 1), (1, 1), (0, 1), (2, 1)), ('nice',), ('cut', ()), (0, 1), ('and', (0, 1), (2, 1))]
+>>> [taken(3, TWICE), best_setting(3, TWICE), [least_leaves(n) for n in (1, 2, 3, 4, 5)], len(leaves(4, sum_bush(4))), led_answer(1, 0), is_led(2, (0, 1), (((0, 1),), (1, 1)))]
+[((4, 2), (2, 1), (2, 1)), (0, 0), [1, 4, 8, 13, 19], 16, ((), (1,)), True]
+>>> led_answer(2, sum_bush(2))
+raises Refused(('leaves', 4))
+"""),
+    ('Stage 19: neighbours parted by leaves', ("deepcodes.small.rects",), r"""
+>>> ODD = ("or", ("and", (0, 1), (1, 0)), ("and", (0, 0), (1, 1)))
+>>> [leaf_parts(2, ODD, (1, 2), (0, 3)), leaf_marks(2, ODD, (1, 2), (0, 3)), neighbour_count(2, (1, 2), (0, 3)), leaves_at_least(2, (1, 2), (0, 3))]
+[(((1,), (0,)), ((1,), (3,)), ((2,), (3,)), ((2,), (0,))), ((1, 1, 1), (1, 1, 1), (1, 1, 1), (1, 1, 1)), 4, 4]
+>>> [rect_paper((0, 1, 1, 0)), is_rect_paper((0, 1, 1, 0), ("leaves", (1,), (0, 3), 2)), sum_bounds(3), leaves_at_least(3, (1, 2, 4, 7), (0, 3, 5, 6))]
+[('leaves', (1, 2), (0, 3), 4), True, (9, 10), 9]
+"""),
+    ('Stage 20: thirds', ("deepcodes.small.thirds",), r"""
+>>> BOTH = (("letter", 0, 1), ("letter", 1, 1), ("or", (0, 1)), ("and", (0, 1)))
+>>> [polynomial_of(2, (0, 1, 1, 0)), agreeing(2, {(0,): 1}), most_agreeing(4, 1), table_of(2, BOTH)]
+[{(0,): 1, (0, 1): 1, (1,): 1}, ((0, 0), (1, 0)), 11, (0, 0, 0, 1)]
+>>> LONE = ((), (), ((1, 1),), ((1, 1),))
+>>> [polynomials(2, BOTH, LONE)[2], charged(2, BOTH, LONE), are_good(2, BOTH, 1, LONE)]
+[{(0,): 1, (0, 1): 2, (1,): 1}, ((), (), (), ()), True]
+"""),
+    ('Stage 21: the checker', ("deepcodes.judge.judge", "deepcodes.judge.answers"), r"""
+>>> CLAIM = ("low", SHUT, DEEP, 5)
+>>> [opposite(CLAIM)[0], is_claim(("low", SHUT, DEEP, 11)), answered(CLAIM)[0][0], answered(("low", FREE, DEEP, 5))[0][0]]
+['deep', False, 'deep', 'low']
+>>> [takes(("deep", SHUT, DEEP, 5), answered(CLAIM)[1]), takes(("deep", FREE, DEEP, 4), ((1, 1, 2, 2, 1, 1), ((0, 0, 0), (1, 0, 1), (1, 0, 0), (2, 0, 1)))), takes(("low", (2,), (((0, 1),),), 2), (0, 0, 1))]
+[True, True, True]
+>>> [answered(("some", 3, ONE, 2, 2))[0][0], answered(("asked", (0, 1, 1, 0), 1))[0][0], answered(("narrow", (0, 1, 1, 0), 1, 1))[0][0], answered(("sums", 2, PARTS)) == (("sums", 2, PARTS), ())]
+['some', 'open', 'wide', True]
+>>> opposite(("sums", 11, PARTS))
+raises InvalidClaim
+"""),
+    ('Stage 22: texts, and a bench', ("deepcodes.use.texts",), r"""
+>>> [formula_text(3, (((0, 1), (2, 0)), ())), restriction_text((2, 0, 1)), tree_text(3, (0, (2, 0, 1), 1)), read_formula(1, "")]
+['+0 -2\ntrue\n', '*01\n', 'ask 0\nask 2\n0\n1\n1\n', ()]
+>>> [circuit_text(2, PARTS[:2] + (("or", (0, 1)), ("and", ()))), read_code("*1\n0 1 1\n")]
+['letter 0 1\nletter 0 0\nor 0,1\nand -\n', ((2, 1), ((0, 1, 1),))]
+>>> read_tree(2, "ask 0\nask 0\n")
+raises ParseError(1)
+"""),
+    ('Stage 22: texts, and a bench', ("deepcodes.use.bench",), r"""
+>>> B = Bench(4)
+>>> [B.tell(line) for line in ("term +0,+1", "term -1,+3", "put 0 -2", "depth", "tell 2 1", "depth", "code 2", "value 1100")]
+['1 terms, width 2', '2 terms, width 2', '3 terms, width 2', 'depth 4', '3 free letters', 'depth 3', 'code 111* 0.0.0 1.0.1', '1']
+>>> [B.tell("drop 1"), B.tell("undo"), len(B), B.restriction, str(B)]
+['2 terms, width 2', 'undone', 3, (2, 2, 1, 2), 'bench of 4 letters, 3 terms']
+>>> B.tell("tell 2 0")
+raises InvalidOperation
+>>> B.tell("term +4")
+raises ParseError(1)
 """),
 )
 
@@ -193,9 +269,11 @@ def steps(text):
 class TestExamples(unittest.TestCase):
     def test_examples(self):
         told = {}
-        for title, module, text in BLOCKS:
+        for title, modules, text in BLOCKS:
             # Some modules have functions of one name, so each block sees those of its own.
-            names = vars(importlib.import_module(module)) if module else {}
+            names = {}
+            for module in modules:
+                names.update(vars(importlib.import_module(module)))
             for statement, wanted in steps(text):
                 with self.subTest(title, statement=statement):
                     self.check({**names, **told}, told, statement, wanted)
@@ -217,9 +295,9 @@ class TestExamples(unittest.TestCase):
             self.assertEqual(list(vars(caught.exception).values()), [eval(value[:-1])])
 
     def test_counted(self):
-        self.assertEqual(len(BLOCKS), 16)
+        self.assertEqual(len(BLOCKS), 24)
         raised = [wanted for _, _, text in BLOCKS for _, wanted in steps(text) if wanted and wanted.startswith("raises")]
-        self.assertEqual(len(raised), 11)
+        self.assertEqual(len(raised), 18)
 
 
 if __name__ == "__main__":

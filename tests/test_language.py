@@ -3,6 +3,7 @@
 import ast
 import builtins
 import pathlib
+import re
 import unittest
 
 ROOT = pathlib.Path(__file__).resolve().parent.parent
@@ -108,13 +109,15 @@ class TestLanguage(unittest.TestCase):
     def test_module_level(self):
         """L3, L15"""
         for path in FILES:
-            bound = []
+            bound, functions = [], set()
             for node in parsed(path).body:
+                if isinstance(node, ast.FunctionDef):
+                    functions.add(node.name)
                 if isinstance(node, ast.Expr):
                     self.assertIsInstance(node.value.value, str)
                 elif isinstance(node, ast.Assign):
                     self.assertEqual(len(node.targets), 1)
-                    ast.literal_eval(node.value)
+                    self.assertTrue(self.is_plain(node.value, functions), (path, node.lineno))
                     bound.append(node.targets[0].id)
                 elif isinstance(node, ast.ImportFrom):
                     bound += [alias.name for alias in node.names]
@@ -123,19 +126,29 @@ class TestLanguage(unittest.TestCase):
                     bound.append(node.name)
             self.assertEqual(len(bound), len(set(bound)), path)
 
+    def is_plain(self, node, functions):
+        """Whether a value is plain, or a dict of functions that are defined above it."""
+        if isinstance(node, ast.Dict) and all(isinstance(value, ast.Name) for value in node.values):
+            return all(isinstance(key, ast.Constant) for key in node.keys) and {v.id for v in node.values} <= functions
+        try:
+            ast.literal_eval(node)
+        except ValueError:
+            return False
+        return True
+
     def test_names(self):
         """L12, L15, L17"""
         for path in FILES:
             tree = parsed(path)
             taken = {alias.name for node in ast.walk(tree) if isinstance(node, ast.ImportFrom) for alias in node.names}
-            taken |= {node.name for node in tree.body if isinstance(node, (ast.ClassDef, ast.FunctionDef))}
+            taken |= {node.name for node in tree.body if isinstance(node, ast.ClassDef)}
             for function in functions_of(tree):
                 names = bound_names(function)
-                if function.name != "__init__":
+                if function.name not in ("__init__", "__len__", "__str__"):
                     names.add(function.name)
                 self.assertFalse((names - {function.name}) & taken, (path, function.name, names & taken))
                 self.assertFalse(names & (set(dir(builtins)) | BARRED), (path, function.name))
-                self.assertFalse([name for name in names if name.startswith("_") and name != "_"])
+                self.assertFalse([name for name in names if not re.fullmatch("_|_?[a-zA-Z][a-zA-Z0-9_]*", name)])
             named = [node for node in ast.walk(tree) if isinstance(node, ast.Name)]
             reads = [node.id for node in named if isinstance(node.ctx, ast.Load)]
             self.assertNotIn("_", reads)

@@ -1,0 +1,1 @@
+"""The checker of papers, and the answers that it takes."""

@@ -1,0 +1,1 @@
+"""Waves and turns: how tables agree with sums of letters."""
