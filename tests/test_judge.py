@@ -68,8 +68,13 @@ def wrong_claims():
     for word in ("led", "stuck"):
         found += parts_wrong((word, 3, THREE, (2, 1), (2, 2)), number(3, 0, 6), support.layers(3, THREE), free, depths)
         found += [(word, 7, ("ands", ((),), ()), (0,), (1,))]
+        for value in support.layers(3, THREE).wrong:
+            # With as many numbers as there would be rounds.
+            if isinstance(value, tuple) and len(value) == 3 and isinstance(value[2], (tuple, list)):
+                found.append((word, 3, value, (0,) * (1 + len(value[2])), (1,) * (1 + len(value[2]))))
     for word in ("sums", "errs"):
         found += parts_wrong((word, 2, PARTS), support.letters(2), support.circuit(2, PARTS))
+        found += parts_wrong((word, 2, (("and", ()),)), support.letters(2), support.circuit(2, (("and", ()),)))
     for claim in CLAIMS:
         found += [list(claim), claim[:-1], (*claim, ()), (*claim, claim[-1]), (None, *claim[1:]), ([], *claim[1:])]
         found += [(claim[0] + "s", *claim[1:]), (claim[0].upper(), *claim[1:]), ((claim[0],), *claim[1:]), claim[1:]]
@@ -125,12 +130,16 @@ class TestClaims(support.Case):
         term = ((0, 1),)
         table = rows.sum_table(8)
         layers = ("ands", ((),), ())
+        great = ("ands", ((),) * 60, ((tuple(range(60)),) + ((),) * 59, (tuple(range(60)),)))
         right = [
             ("low", (2,) * 10, (term,) * 64, 10), ("deep", (), (), 0), ("some", 10, (term,) * 3, 3, 0),
             ("none", 10, (), 3, 10), ("some", 10, (term,) * 7, 5, 0), ("none", 10, (term,) * 58, 0, 1),
             ("some", 10, (term,) * 64, 10, 1), ("asked", table, 10), ("open", table, 0), ("narrow", table, 0, 10),
             ("wide", (1,), 1, 0), ("led", 6, layers, (6,), (10,)), ("stuck", 0, layers, (0,), (1,)),
             ("sums", 10, (("letter", 9, 0),)), ("errs", 0, (("or", ()),) * 120),
+            ("errs", 0, (("or", ()),) * 64 + (("and", tuple(range(64))),)),
+            ("led", 0, ("ors", ((),), (((0,),),) * 6), (0,) * 7, (1,) * 7), ("stuck", 0, great, (0, 0, 0), (1, 1, 1)),
+            ("led", 1, ("ors", ((term,) * 64,), ()), (0,), (1,)),
         ]
         wrong = [
             ("low", (2,) * 11, (), 1), ("deep", (), (), 11), ("some", 10, (term,) * 4, 3, 0), ("some", 10, (), 11, 0),
@@ -276,11 +285,12 @@ class TestTables(Papers):
                         and reference.table_by(n, lambda row: reference.tree_value(tree, row)) == table
                     ]
                     wrong = [tree for tree in every if tree not in right]
+                    wrong += [(letter, tree, tree) for letter in (-1, n, n + 1, 10 ** 30) for tree in right[:1]]
                     if right:
                         plan = {(2,) * n: ()}
-                        self.settles(claim, right[:5], CHANCE.sample(wrong, min(9, len(wrong))) + [plan], True)
+                        self.settles(claim, right[:5], CHANCE.sample(wrong, min(9, len(wrong))) + wrong[-4:] + [plan], True)
                     else:
-                        plan = self.settles(claim, [], wrong[:9], False)
+                        plan = self.settles(claim, [], CHANCE.sample(wrong, min(9, len(wrong))), False)
                         self.settles(claim, [plan, dict(reversed(plan.items()))], self.plans_wrong(plan), False)
 
     def plans_wrong(self, plan):
@@ -292,6 +302,19 @@ class TestTables(Papers):
             found += [{**plan, key: (*told[:at], 0, *told[at + 1:])} for at in range(len(told)) if told[at] == 2]
             found += [{**plan, (*key, 2): told}, {**plan, None: told}]
         return found
+
+    def test_three_letters_told(self):
+        """Plans whose rows have told letters."""
+        most = reference.table_by(3, lambda row: int(sum(row) > 1))
+        for table, depth in ((rows.sum_table(3), 2), (most, 2), (rows.sum_table(3), 1)):
+            plan = self.settles(("asked", table, depth), [], [], False)
+            self.settles(("open", table, depth), [plan], self.plans_wrong(plan))
+            for key, told in plan.items():
+                for at, member in enumerate(told):
+                    for other in {0, 1, 2, 3, -1} - {member}:
+                        value = {**plan, key: (*told[:at], other, *told[at + 1:])}
+                        wanted = least.is_plan(table, depth, value)
+                        self.assertIs(judge.takes(("open", table, depth), value), wanted)
 
     def test_all_plans(self):
         """Plans of two letters, whatever rows they have."""
@@ -373,7 +396,7 @@ class TestWalks(Papers):
             found += [(gate, code) for code in beginnings(restriction, formula, s)]
         return found
 
-    def papers(self, n, layers, free, depths):
+    def papers(self, n, layers, free, depths, most=64):
         """The word, the rounds with lists of all right charges, and the tree or such lists at last; None by the limit."""
         here, rounds = (2,) * n, []
         for many, s in zip(free, depths):
@@ -388,7 +411,7 @@ class TestWalks(Papers):
             rounds.append((ahead, here))
             if layers[2]:
                 layers = reference.lowered(layers, here)
-                if max(len(formula) for formula in layers[1]) > 64:
+                if max(len(formula) for formula in layers[1]) > most:
                     return None
         tree = reference.canonical(here, reference.bottom(layers, 0))
         return "led", rounds, tree if layers[0] == "ands" else reference.swapped_ends(tree)
@@ -409,7 +432,15 @@ class TestWalks(Papers):
             rounds += [((*charges, charges[-1]), here)] if charges else [(((0, (here, ())),), here)]
             rounds += [(charges, other) for other in reference.with_free(n, here.count(2)) if other != here]
             rounds += [((*charges[:-1], (1 - charges[-1][0], charges[-1][1])), here)] if charges else []
-            rounds += [((*charges[:-1], (charges[-1][0], bad)), here) for bad in code_wrong(charges[-1][1])] if charges else []
+            if charges:
+                gate, code = charges[-1]
+                rounds += [((*charges[:-1], (gate, bad)), here) for bad in code_wrong(code)]
+                rounds += [((*charges[:-1], (other, code)), here) for other in (-1, gate - 4, gate + 4, None)]
+            above = told[at - 1][1] if at else (2,) * n
+            looked_at = reference.behind_all(above, here.count(2))
+            # A restriction that is charged is no good one, and behind the good one nothing is charged.
+            rounds += [(charges[:many], looked_at[many]) for many in range(len(charges))]
+            rounds += [((*charges, *charges[-1:]), other) for other in looked_at[len(charges) + 1:][:1]]
             found += [((*ahead, one, *behind), last) for one in rounds if one != (charges, here)]
         return found
 
@@ -417,6 +448,11 @@ class TestWalks(Papers):
         formula = (((0, 1), (1, 1)), ((2, 1),))
         yield 3, ("ands", (formula, formula), (((0, 1),),)), (2, 2), (2, 1)
         yield 3, ("ors", (formula,), (((0,), (0,)), ((0, 1),))), (2, 2, 1), (2, 1, 1)
+        # The letters of a way do not ascend, those of its clause do.
+        formula = (((2, 1),), ((0, 1),), ((1, 0),))
+        for word in ("ands", "ors"):
+            yield 3, (word, (formula,), (((0,),),)), (3, 3), (4, 4)
+            yield 3, (word, (formula, (((1, 1),), ((0, 0),))), (((0, 1), (1,)), ((0, 1),))), (3, 3, 3), (4, 4, 4)
         for n in range(4):
             for _ in range(many):
                 layers = reference.random_layers(CHANCE, n, CHANCE.choice((1, 2, 2, 3)))
@@ -438,7 +474,14 @@ class TestWalks(Papers):
                 charges = right[0][1]
                 wrong += [(right[0][0], bad) for bad in (charges[:-1], (*charges, charges[0]), ())]
                 codes_wrong = [(charges[-1][0], bad) for bad in code_wrong(charges[-1][1])]
+                codes_wrong += [(gate, charges[-1][1]) for gate in (-1, -2, 9, None)]
                 wrong += [(right[0][0], (*charges[:-1], bad)) for bad in codes_wrong if bad not in last[-1]]
+                # It is not led on from a restriction that is charged.
+                above = right[0][0][-1][1] if right[0][0] else (2,) * n
+                looked_at = reference.behind_all(above, free[len(right[0][0])])
+                for many, restriction in enumerate(looked_at):
+                    rounds_on = (*right[0][0], (charges[:many], restriction))
+                    wrong += [(rounds_on, tree) for tree in (0, 1)] + [(rounds_on, ())]
             self.settles(claim, right[:1], wrong, word == "led")
             self.settles(claim, right, [], word == "led")
             kinds.add((word, len(rounds), any(ahead for ahead, _ in rounds)))
@@ -477,18 +520,34 @@ class TestWalks(Papers):
 
     def test_too_many_clauses(self):
         """Neither claim has papers then, and `answered` raises."""
-        self.assertIs(judge.is_claim(("led", 6, WIDE, (6, 6), (7, 7))), True)
-        self.assertIsNone(self.papers(6, WIDE, (6, 6), (7, 7)))
-        first = ((), (2,) * 6)
-        tree = reference.canonical((2,) * 6, ())
-        for claim in (("led", 6, WIDE, (6, 6), (7, 7)), ("stuck", 6, WIDE, (6, 6), (7, 7))):
-            self.refuses(errors.TooMany, 64, answers.answered, claim)
-            for paper in (((first, first), tree), ((first,), ()), ((first, first), 1), ((first,), ((0, ((), ())),))):
-                self.assertIs(judge.takes(claim, paper), False)
+        claim = ("led", 6, WIDE, (6, 6), (7, 7))
+        self.assertIs(judge.is_claim(claim), True)
+        self.assertIsNone(self.papers(*claim[1:]))
+        word, rounds, last = self.papers(*claim[1:], most=80)
+        self.assertEqual(word, "led")
+        for value in (claim, judge.opposite(claim)):
+            self.refuses(errors.TooMany, 64, answers.answered, value)
+            self.assertIs(judge.takes(value, self.paper(word, rounds, last)), False)
+            for paper in (((((), (2,) * 6),), ()), ((((), (2,) * 6),), ((0, ((), ())),))):
+                self.assertIs(judge.takes(value, paper), False)
         # A first round without a good restriction comes ahead of that.
         told, paper = answers.answered(("led", 6, WIDE, (6, 6), (6, 7)))
         self.assertEqual(told[0], "stuck")
         self.assertIs(judge.takes(told, paper), True)
+
+    def test_just_enough_clauses(self):
+        """64 clauses are let, 65 are not; with those of one way and no letter there are so many."""
+        whole = WIDE[1][:2]
+        for extra, wanted in (((), True), ((((0, 1),),), False)):
+            formulas = whole + ((extra,) if extra else ())
+            layers = ("ands", formulas, ((tuple(range(len(formulas))),),))
+            claim = ("led", 6, layers, (6, 6), (7, 7))
+            word, rounds, last = self.papers(*claim[1:], most=65)
+            self.assertEqual(judge.takes(claim, self.paper(word, rounds, last)), wanted)
+            if wanted:
+                self.assertEqual(answers.answered(claim), (claim, self.paper(word, rounds, last)))
+            else:
+                self.refuses(errors.TooMany, 64, answers.answered, claim)
 
     def test_work(self):
         """The work limit bars the answer alone: the checker takes papers."""

@@ -264,7 +264,7 @@ class TestCircuits(support.Case):
         """The lines and the members of all lots, times 2 ** n, behind all other errors."""
         judge = lambda n, lines, rounds: thirds.are_good(n, lines, rounds, None)
         other_judge = lambda n, lines, some: thirds.is_sum_answer(n, lines, some, None)
-        for n, many in ((10, 58), (9, 117), (8, 234)):
+        for n, many in ((10, 58), (9, 117), (8, 234), (5, 1875)):
             lines = sized(many)
             for lines, is_great in ((lines, False), (sized(many + 1), True)):
                 some = tuple(((0,) * len(line[1]),) if line[0] == "or" else () for line in lines)
@@ -283,12 +283,34 @@ class TestCircuits(support.Case):
                     self.refuses(errors.InvalidOperation, None, function, n, lines, some[1:])
 
 
+def made_of_thirds(sets, word):
+    """A circuit of three letters with a gate at last over lines that are 1 at the inputs with these numbers."""
+    lines = [("letter", v, b) for v in range(3) for b in (0, 1)] + [("and", ()), ("and", ())]
+
+    def line(*lot):
+        lines.append(("thirds", tuple(sorted(lot))))
+        return len(lines) - 1
+
+    points = []
+    for number in range(8):
+        # 1 but where all three bits are right, and so the other way round.
+        unlike = [2 * v + 1 - (number >> v & 1) for v in range(3)]
+        points.append(line(line(line(*unlike[:2]), unlike[2]), 6, 7))
+    members = []
+    for numbers in sets:
+        found = line()
+        for number in sorted(numbers):
+            found = line(found, points[number])
+        members.append(found)
+    return (*lines, (word, tuple(members)))
+
+
 def sized(many):
     """A circuit whose lines and members come to so many."""
     lines = [("letter", 0, 1)]
     rest = many - 1
     while rest:
-        size = min(len(lines), rest - 1, 20)
+        size = min(len(lines), rest - 1, 25)
         lines.append(("or", tuple(range(size))))
         rest -= 1 + size
     return tuple(lines)
@@ -322,6 +344,51 @@ class TestGood(support.Case):
                 self.assertIs(thirds.are_good(n, lines, rounds, found), True)
                 if n < 10:
                     self.assertTrue(self.is_good(n, lines, rounds, found))
+
+    def test_line_upon_line(self):
+        """Lots of lines some of whose inputs are charged: their polynomials count, not their values."""
+        for n in (5, 6, 7):
+            for _ in range(40):
+                lines = self.wide_lines(n)
+                for rounds in (1, 2):
+                    found = thirds.good_factors(n, lines, rounds)
+                    self.assertTrue(self.is_good(n, lines, rounds, found))
+                    self.assertIs(thirds.are_good(n, lines, rounds, found), True)
+
+    def test_told_lines(self):
+        """Here the values in place of the polynomials would lead to factors that are not good."""
+        letters = [tuple(("letter", v, 1) for v in range(n)) for n in range(6)]
+        for n, lines in (
+            (3, (("or", (0, 1, 2)), ("thirds", (2, 3)), ("and", (3, 4)), ("and", (1, 2, 4)))),
+            (4, (("thirds", (0, 1, 2)), ("or", (0, 2, 3, 4)), ("and", (4, 5)), ("and", (4, 6)), ("or", (0, 2, 3, 5, 7)))),
+            (5, (("or", (0, 4)), ("or", (0, 1, 2, 4, 5)), ("and", (5, 6)))),
+        ):
+            lines = letters[n] + lines
+            for rounds in (1, 2, 3, 4):
+                found = thirds.good_factors(n, lines, rounds)
+                self.assertTrue(self.is_good(n, lines, rounds, found))
+                self.assertIs(thirds.are_good(n, lines, rounds, found), True)
+
+    def test_any_lots(self):
+        """A gate over lines with any values, which are made of thirds alone, so that none of them is charged."""
+        every = range(8)
+        some = [[CHANCE.sample(every, CHANCE.randint(0, 8)) for _ in range(CHANCE.randint(1, 5))] for _ in range(60)]
+        # Three inputs come with the sum 0, three with the sum 2, to a number that no other one is behind.
+        some += [[[0, 2, 3, 4], [1, 2, 3, 4], [2, 3, 4, 5, 6, 7]], [[0, 5, 6, 7], [1, 5, 6, 7], [2, 3, 4, 5, 6, 7]]]
+        some += [[[1, 2], [0, 1, 2, 3, 6], [1, 2, 3, 5, 7], [2, 4]], [[3, 4, 5, 6], [2, 4, 6], [0, 1, 4, 6], [4, 7]]]
+        for sets, word in itertools.product(some, ("or", "and")):
+            lines = made_of_thirds([at if word == "or" else set(every) - set(at) for at in sets], word)
+            for rounds in (1, 2):
+                found = thirds.good_factors(3, lines, rounds)
+                self.assertTrue(self.is_good(3, lines, rounds, found), (sets, word))
+                self.assertIs(thirds.are_good(3, lines, rounds, found), True)
+
+    def wide_lines(self, n):
+        lines = [("letter", v, b) for v in range(n) for b in (0, 1)]
+        for _ in range(9):
+            lot = sorted(CHANCE.sample(range(len(lines)), CHANCE.randint(2, 7)))
+            lines.append((CHANCE.choice(("and", "or", "and", "or", "thirds")), tuple(lot)))
+        return tuple(lines)
 
     def test_are_good(self):
         for n in range(4):

@@ -24,10 +24,10 @@ def is_tuple_from(value, least, most):
 
 
 def is_just(value, wanted):
-    """Whether the value is the wanted one, which is built of tuples, integers and strings: True is not 1."""
+    """Whether the value is the wanted one, which is built of tuples and integers: True is not 1."""
     if isinstance(wanted, tuple):
         return is_tuple_of(value, len(wanted)) and all([is_just(part, one) for part, one in zip(value, wanted)])
-    return value == wanted if isinstance(wanted, str) else is_number(value, wanted, wanted)
+    return is_number(value, wanted, wanted)
 
 
 def are_ascending(numbers):
