@@ -222,7 +222,7 @@ def chosen_tuple(masks, missed):
     for at, mask in enumerate(masks):
         # Where no later number counts, the sum is known with this one; elsewhere a third of the rest goes wrong.
         last = mask & ~doubtful_at(masks[at + 1:])
-        lost = [size_of(classes[-number % 3] & last) for number in range(3)]
+        lost = [size_of(classes[-factor % 3] & last) for factor in range(3)]
         number = lost.index(min(lost))
         numbers.append(number)
         classes = added(classes, mask, number)
